@@ -127,3 +127,93 @@ def put_after(one, other):
         sub = other if key in one else {}
         made[key] = put_in_row(thing, sub) if isinstance(thing[0], tuple) else put_in(thing, sub)
     return made
+
+
+def headless(kind):
+    """What a KIND begins with, and what tells it apart from others with the same kinds in it."""
+    if kind[0] == "record":
+        return ("record", tuple([label for label, _ in kind[1]]), None if kind[2] is None else kind[2][1])
+    if kind[0] in ("of", "var"):
+        return (kind[0], kind[1])
+    return (kind[0],)
+
+
+class Shelf:
+    """Kinds, however great, each told by a number of its own: the same kinds by the same number.
+
+    heads: what each kind begins with, as headless tells. insides: the numbers of the kinds in it. sizes, depths:
+    how many parts it has, and how deep it is, told only as far as tells that it is too much.
+    """
+
+    def __init__(self):
+        self.known = {}
+        self.heads = []
+        self.insides = []
+        self.sizes = []
+        self.depths = []
+
+    def make(self, head, parts):
+        """The number of the kind with this head and these kinds in it."""
+        key = (head, tuple(parts))
+        if key not in self.known:
+            self.known[key] = len(self.heads)
+            self.heads.append(head)
+            self.insides.append(key[1])
+            self.sizes.append(min(1 + sum([self.sizes[part] for part in key[1]]), MOST_PARTS + 1))
+            self.depths.append(min(1 + max([0] + [self.depths[part] for part in key[1]]), DEEPEST_KIND + 1))
+        return self.known[key]
+
+    def record(self, labels, parts):
+        """The number of the record that has kinds of these numbers under ascending labels, and no others."""
+        return self.make(("record", tuple(labels), None), parts)
+
+    def built(self, kind, env):
+        """The number of a KIND in which stands, for variables, what a dict has for them: numbers of kinds.
+
+        For rests it has tuples of labels, of as many numbers, and of the integer of the rest behind, or None.
+        """
+        if kind[0] == "var" and kind[1] in env:
+            return env[kind[1]]
+        parts = []
+        for part in inner("kind", kind):
+            parts.append(self.built(part, env))
+        head = headless(kind)
+        if head[0] != "record" or head[2] not in env:
+            return self.make(head, parts)
+        labels, more, rest = env[head[2]]
+        fields = sorted(list(zip(head[1] + labels, parts + more)), key=lambda field: field[0])
+        return self.make(("record", tuple([label for label, _ in fields]), rest), [part for _, part in fields])
+
+    def is_too_great(self, number):
+        """Whether a kind has more parts, or is deeper, than a KIND."""
+        return self.sizes[number] > MOST_PARTS or self.depths[number] > DEEPEST_KIND
+
+    def written(self, number):
+        """The KIND of a number; it is not too great."""
+        parts = []
+        for part in self.insides[number]:
+            parts.append(self.written(part))
+        head = self.heads[number]
+        if head[0] == "record":
+            return ("record", tuple(zip(head[1], parts)), None if head[2] is None else ("var", head[2]))
+        if head[0] in ("tuple", "of"):
+            return head + (tuple(parts),)
+        return head + tuple(parts)
+
+    def variables_at(self, number):
+        """A dict that has the integers of all variables of a kind as keys."""
+        found = {}
+        met = {number: True}
+        todo = [number]
+        while todo:
+            one = todo.pop()
+            head = self.heads[one]
+            if head[0] == "var":
+                found[head[1]] = True
+            elif head[0] == "record" and head[2] is not None:
+                found[head[2]] = True
+            for part in self.insides[one]:
+                if part not in met:
+                    met[part] = True
+                    todo.append(part)
+        return found

@@ -1,0 +1,228 @@
+"""The checker: most general derivations, the schemes of programs, and the plain way of a let."""
+
+from kindsworn.derivations import Outline, makers_told, numbered, same_kinds
+from kindsworn.errors import TooMany
+from kindsworn.schemes import Fitting, scheme_of
+from kindsworn.trees import free_names, is_settled, parts_of, places_of, plain_names, with_parts
+from kindsworn.unify import Graph, check_greatness, written
+
+MOST_PLACES = 2000
+
+
+class Solver:
+    """The kinds of all places of a program, as the RULES of a lot want them.
+
+    kinds: the node of the kind at each place, by its index. named: from tuples of the index of a fn or a match, the
+    part in which a name stands, and the name to nodes. copied: for each place at which variables are GENERAL the
+    nodes that have such variables in them, each behind its parts; kept: all other variables of the kinds there.
+    order: all nodes, each behind its parts; None if the lot has no DERIVATION.
+    """
+
+    def __init__(self, declarations, outline, lot):
+        self.told = makers_told(declarations)
+        self.outline = outline
+        self.lot = {place: True for place in lot}
+        self.graph = Graph()
+        self.kinds = [self.graph.variable() for _ in outline.places]
+        self.named = {}
+        self.copied = {}
+        self.kept = {}
+        self.order = self.graph.ordered(self.kinds) if self.solve() else None
+
+    def is_ruled(self, index):
+        """Whether a place is one of the lot."""
+        return self.outline.places[index] in self.lot
+
+    def solve(self):
+        """Does what the RULES of the lot want; tells whether this goes, but for rings."""
+        behind = {self.outline.parts[index][-1]: index for index in self.outline.shared if self.is_ruled(index)}
+        for index in range(len(self.kinds)):
+            # All that is in the one of a let, or in a group, is done when its rest begins.
+            if index in behind and not self.share(behind[index]):
+                return False
+            if self.is_ruled(index) and not self.rule(index):
+                return False
+        return True
+
+    def rule(self, index):
+        """Does what the RULE of a place wants; tells whether this goes."""
+        parts = [self.kinds[part] for part in self.outline.parts[index]]
+        pairs = same_kinds(self.outline.terms[index], self.kinds[index], parts, self.graph)
+        pairs.extend(self.own_pairs(index, self.outline.terms[index], parts))
+        for one, other in pairs:
+            if not self.graph.merge(one, other):
+                return False
+        return True
+
+    def own_pairs(self, index, term, parts):
+        """The pairs that have to be the same by the RULE of a term, but for those that same_kinds tells."""
+        own = self.kinds[index]
+        if term[0] == "name":
+            binder = self.outline.binders[index]
+            return [(own, self.kind_named(term[1], binder))] if self.is_ruled(binder[0]) else []
+        if term[0] == "fn":
+            self.named[(index, 0, term[1])] = self.graph.variable()
+            return [(own, self.graph.make(("to",), (self.named[(index, 0, term[1])], parts[0])))]
+        if term[0] == "field":
+            return [(parts[0], self.graph.record_before([term[2]], [own], self.graph.variable()))]
+        if term[0] == "make":
+            made, within = self.making(term[1])
+            return [(own, made)] + [(part, within) for part in parts]
+        pairs = []
+        if term[0] == "match":
+            for row in range(len(term[2])):
+                pairs.append((parts[0], self.pattern_node(term[2][row][0], (index, row + 1), pairs)))
+        return pairs
+
+    def making(self, maker):
+        """A node for what a maker makes, and one for what it makes this of, None if of nothing."""
+        name, many, kind = self.told[maker]
+        given = [self.graph.variable() for _ in range(many)]
+        within = None if kind is None else self.graph.built(kind, numbered(given))
+        return (self.graph.make(("of", name), given), within)
+
+    def pattern_node(self, pattern, around, pairs):
+        """A node for the kinds that a pattern SUITS; what has to be the same for this comes behind pairs.
+
+        The names that it binds are noted with the index of the match, and the part of it, that around tells.
+        """
+        if pattern[0] in ("num", "truth"):
+            return self.graph.make((pattern[0],), ())
+        if pattern[0] == "tuple":
+            return self.graph.make(("tuple",), [self.pattern_node(part, around, pairs) for part in pattern[1]])
+        if pattern[0] == "record":
+            parts = [self.pattern_node(part, around, pairs) for _, part in pattern[1]]
+            return self.graph.record_before([label for label, _ in pattern[1]], parts, self.graph.variable())
+        if pattern[0] == "make":
+            made, within = self.making(pattern[1])
+            if pattern[2] is not None:
+                pairs.append((within, self.pattern_node(pattern[2], around, pairs)))
+            return made
+        node = self.graph.variable()
+        if pattern[0] == "bind":
+            self.named[around + (pattern[1],)] = node
+        return node
+
+    def kind_named(self, name, binder):
+        """The node of the kind that a name has at a place where it stands."""
+        one, way = binder
+        if (one, way, name) in self.named:
+            return self.named[(one, way, name)]
+        node = self.kinds[self.outline.group_part(one, name)]
+        return self.instance(one, node) if self.outline.is_spread(binder) else node
+
+    def instance(self, index, node):
+        """A node for another instance of a kind that has GENERAL variables at a place."""
+        copies = {}
+        for one in self.copied[index]:
+            head = self.graph.heads[one]
+            copies[one] = self.graph.make(head, [copies.get(part, part) for part in self.graph.parts_at(one)])
+        return copies.get(self.graph.top(node), node)
+
+    def share(self, index):
+        """Finds what is GENERAL at a let or a rec; tells whether there is no ring."""
+        order = self.graph.ordered([self.kinds[part] for part in self.outline.shared[index]])
+        roots = []
+        for name, binder in self.outline.outer[index].items():
+            if self.is_ruled(binder[0]):
+                spread = self.outline.is_spread(binder)
+                roots.extend(self.kept[binder[0]] if spread else [self.kind_named(name, binder)])
+        outer = self.graph.ordered(roots)
+        if order is None or outer is None:
+            return False
+        fixed = {node: True for node in outer}
+        copied = {}
+        for node in order:
+            is_variable = self.graph.heads[node] is None
+            if is_variable and node not in fixed:
+                copied[node] = True
+            elif not is_variable and any([part in copied for part in self.graph.parts_at(node)]):
+                copied[node] = True
+        self.copied[index] = list(copied)
+        self.kept[index] = [node for node in order if self.graph.heads[node] is None and node in fixed]
+        return True
+
+    def general_at(self, index, integers):
+        """The ascending tuple of the variables that are GENERAL at a place."""
+        return tuple(sorted([integers[node] for node in self.copied[index] if self.graph.heads[node] is None]))
+
+
+def is_solvable(declarations, outline, lot):
+    """Whether a lot of a program with these declarations, and such a term, has a DERIVATION, however great."""
+    return Solver(declarations, outline, lot).order is not None
+
+
+def has_derivation(program, lot):
+    """Whether a lot has a DERIVATION, however great."""
+    return is_solvable(program[0], Outline(program[1]), lot)
+
+
+def derivation_of(program, lot):
+    """A DERIVATION of a lot that is MOST GENERAL, None if the lot has none."""
+    outline = Outline(program[1])
+    solver = Solver(program[0], outline, lot)
+    if solver.order is None:
+        return None
+    tops = [solver.graph.top(node) for node in solver.kinds]
+    check_greatness(solver.graph, solver.order, tops)
+    variables = [node for node in solver.order if solver.graph.heads[node] is None]
+    integers = {node: at for at, node in enumerate(variables)}
+    made = written(solver.graph, solver.order, integers)
+    kinds = {place: made[top] for place, top in zip(outline.places, tops)}
+    return (kinds, {outline.places[index]: solver.general_at(index, integers) for index in sorted(solver.copied)})
+
+
+def scheme_of_program(program):
+    """The SCHEME of a program, None if it has no kind."""
+    derivation = derivation_of(program, places_of(program[1]))
+    return None if derivation is None else scheme_of(derivation[0][()])
+
+
+def has_scheme(program, scheme):
+    """Whether all instances of a SCHEME are kinds that a program can have."""
+    outline = Outline(program[1])
+    solver = Solver(program[0], outline, outline.places)
+    return solver.order is not None and Fitting(solver.graph).fits(solver.kinds[0], scheme[1])
+
+
+def many_spread(term, sizes):
+    """How many places a term has when it is spread out; sizes has how many those have that stand for names."""
+    if term[0] == "name":
+        return sizes.get(term[1], 1)
+    if term[0] == "let" and is_settled(term[2]):
+        one = many_spread(term[2], sizes)
+        if term[1] in free_names(term[3]):
+            return many_spread(term[3], {**sizes, term[1]: one})
+        return 3 + one + many_spread(term[3], sizes)
+    return 1 + sum([many_spread(part, sizes) for part in parts_of(term)])
+
+
+def spread_term(term, ones):
+    """A term, no name of which is bound twice, spread out; ones has the terms that stand for names."""
+    if term[0] == "name":
+        return ones.get(term[1], term)
+    if term[0] == "let":
+        return spread_let(term, ones)
+    return with_parts(term, [spread_term(part, ones) for part in parts_of(term)])
+
+
+def spread_let(term, ones):
+    """What spread_term tells of a let."""
+    _, name, one, rest = term
+    spread = spread_term(one, ones)
+    if not is_settled(one):
+        behind = spread_term(rest, ones)
+        return ("match", spread, ((("bind", name), behind),)) if is_settled(spread) else ("let", name, spread, behind)
+    if name in free_names(rest):
+        return spread_term(rest, {**ones, name: spread})
+    last = ("tuple", (("any",), ("bind", "x")))
+    return ("match", ("tuple", (spread, spread_term(rest, ones))), ((last, ("name", "x")),))
+
+
+def spread_out(program):
+    """The program without a let whose one is SETTLED, each name of which stands for a copy of it."""
+    # As each name is bound once, nothing that is free in a copy can be bound where it stands.
+    term = plain_names(program[1])
+    if many_spread(term, {}) > MOST_PLACES:
+        raise TooMany(MOST_PLACES)
+    return (program[0], spread_term(term, {}))
