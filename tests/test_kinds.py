@@ -9,6 +9,7 @@ from kindsworn.kinds import (
     are_fit, field_kind, is_substitution, put_after, put_in, rests_in, size_of_kind, variables_in)
 from kindsworn.reader import read_kind
 from tests.anything import STRANGE, any_values, frozen, spoilt
+from tests.plain import put
 from tests.samples import random_kind
 
 NUM, TRUTH = ("num",), ("truth",)
@@ -33,26 +34,6 @@ def cells(depth, inmost=NUM):
 def nums(parts):
     """A kind with so many parts, two deep."""
     return ("of", "A", (NUM,) * (parts - 1))
-
-
-def plainly(kind, sub):
-    """The kind in which a substitution is put, told once more."""
-    if kind[0] == "var":
-        return sub.get(kind[1], kind)
-    if kind[0] in ("num", "truth"):
-        return kind
-    if kind[0] == "tuple":
-        return ("tuple", tuple(plainly(part, sub) for part in kind[1]))
-    if kind[0] == "of":
-        return ("of", kind[1], tuple(plainly(part, sub) for part in kind[2]))
-    if kind[0] == "record":
-        fields = {label: plainly(part, sub) for label, part in kind[1]}
-        rest = kind[2]
-        if rest is not None and rest[1] in sub:
-            fields.update(dict(sub[rest[1]][0]))
-            rest = sub[rest[1]][1]
-        return ("record", tuple(sorted(fields.items())), rest)
-    return (kind[0],) + tuple(plainly(part, sub) for part in kind[1:])
 
 
 class VariablesTest(unittest.TestCase):
@@ -168,9 +149,9 @@ class PutInTest(unittest.TestCase):
             one, other = sub((0, 1, 2), (5, 6)), sub((0, 1, 2), (105, 106))
             before = frozen((kind, one, other))
             once = put_in(kind, one)
-            self.assertEqual(once, plainly(kind, one))
+            self.assertEqual(once, put(kind, one))
             self.assertTrue(is_kind(once))
-            self.assertEqual(put_in(once, other), plainly(once, other))
+            self.assertEqual(put_in(once, other), put(once, other))
             self.assertEqual(put_in(kind, put_after(one, other)), put_in(once, other))
             self.assertEqual(list(put_after(one, other)), sorted(set(one) | set(other)))
             self.assertEqual(frozen((kind, one, other)), before)
