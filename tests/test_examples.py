@@ -85,8 +85,10 @@ Main List.Nil
 [True, False, ()]
 """
 
-BEHIND_26_OF_KINDS = r"""
+BEHIND_26 = r"""
 >>> from kindsworn.kinds import are_fit, field_kind, put_after, put_in, rests_in, size_of_kind, variables_in
+>>> from kindsworn.schemes import common_instance, instance_by, is_instance, is_more_general, matched, scheme_of
+>>> from kindsworn.unify import first_clash, is_unifier, unify
 >>> num, truth = ("num",), ("truth",)
 >>> some, more = ("record", (("a", ("var", 4)),), ("var", 2)), ("record", (("b", truth),), ("var", 5))
 >>> [variables_in(some), rests_in(some), are_fit([some, more]), are_fit([some, ("record", (("c", num),), ("var", 2))]), field_kind(some, "a")]
@@ -95,6 +97,146 @@ BEHIND_26_OF_KINDS = r"""
 ('to', ('record', (('a', ('num',)), ('b', ('truth',))), None), ('num',))
 >>> [put_after({0: ("cell", ("var", 1))}, {1: num}), size_of_kind(some)]
 [{0: ('cell', ('num',)), 1: ('num',)}, 2]
+>>> pairs = [(("to", ("var", 0), num), ("to", truth, ("var", 1))), (("var", 0), ("var", 1))]
+>>> [unify(pairs[:1]), unify(pairs), first_clash(pairs), unify([(("var", 0), ("cell", ("var", 0)))])]
+[{0: ('truth',), 1: ('num',)}, None, 1, None]
+>>> found = unify([(some, more)])
+>>> [list(found), put_in(some, found) == put_in(more, found), [label for label, kind in put_in(some, found)[1]], found[2][1] == found[5][1]]
+[[2, 5], True, ['a', 'b'], True]
+>>> [is_unifier([(some, more)], {2: ((("b", truth),), None), 5: ((("a", ("var", 4)),), None)}), is_unifier([(some, more)], {})]
+[True, False]
+>>> twice = scheme_of(("to", ("var", 7), ("tuple", (("var", 3), ("var", 7)))))
+>>> [twice, scheme_of(some), instance_by(twice, ("to", num, ("tuple", (truth, num))))]
+[(2, ('to', ('var', 0), ('tuple', (('var', 1), ('var', 0))))), (2, ('record', (('a', ('var', 0)),), ('var', 1))), {0: ('num',), 1: ('truth',)}]
+>>> same = (1, ("to", ("var", 0), ("var", 0)))
+>>> [is_instance(same, ("to", num, truth)), is_more_general((2, ("to", ("var", 0), ("var", 1))), same), is_instance(same, ("to", ("var", 3), ("var", 3)))]
+[False, True, True]
+>>> [common_instance((1, ("to", ("var", 0), num)), (1, ("to", truth, ("var", 0)))), common_instance(same, (0, ("to", num, truth)))]
+[(0, ('to', ('truth',), ('num',))), None]
+>>> [matched(("to", ("var", 0), ("var", 1)), ("to", num, ("var", 1)), (0,)), matched(("to", ("var", 0), ("var", 1)), ("to", num, num), (0,))]
+[{0: ('num',)}, None]
+"""
+
+BEHIND_33 = r"""
+>>> from kindsworn.checker import derivation_of, has_scheme, scheme_of_program
+>>> from kindsworn.derivations import binder_of, broken_rules, is_derivation, maker_of, pattern_kinds, specialised
+>>> num, truth, x = ("num",), ("truth",), ("name", "x")
+>>> same = ("fn", "x", x)
+>>> program = ((), ("call", same, ("num", 3)))
+>>> kinds = {(): num, (0,): ("to", num, num), (0, 0): num, (1,): num}
+>>> every = ((), (0,), (0, 0), (1,))
+>>> [is_derivation(program, every, (kinds, {})), broken_rules(program, every, ({**kinds, (1,): truth}, {}))]
+[True, [(), (1,)]]
+>>> [is_derivation(program, ((0,), (0, 0)), ({**kinds, (1,): truth}, {})), binder_of(program[1], (0, 0))]
+[True, (0,)]
+>>> twice = ("tuple", (("call", ("name", "i"), ("num", 3)), ("call", ("name", "i"), ("truth", True))))
+>>> [scheme_of_program(((), ("let", "i", same, twice))), scheme_of_program(((), ("call", ("fn", "i", twice), same)))]
+[(0, ('tuple', (('num',), ('truth',)))), None]
+>>> held = ("let", "c", ("new", same), ("let", "i", ("get", ("name", "c")), twice))
+>>> [scheme_of_program(((), held)), scheme_of_program(((), ("rec", (("i", same),), twice)))]
+[None, (0, ('tuple', (('num',), ('truth',))))]
+>>> both = ("fn", "r", ("op", "+", ("field", ("name", "r"), "a"), ("field", ("name", "r"), "b")))
+>>> scheme_of_program(((), both))
+(1, ('to', ('record', (('a', ('num',)), ('b', ('num',))), ('var', 0)), ('num',)))
+>>> lists = (("List", 1, (("Nil", None), ("Cons", ("tuple", (("var", 0), ("of", "List", (("var", 0),))))))),)
+>>> head = ("make", "Cons", ("tuple", (("bind", "x"), ("bind", "t"))))
+>>> [pattern_kinds(lists, head, ("of", "List", (num,))), pattern_kinds(lists, head, num), maker_of(lists, "Nil")]
+[{'t': ('of', 'List', (('num',),)), 'x': ('num',)}, None, ('List', 1, None)]
+>>> body = ("match", ("name", "l"), ((("make", "Nil", None), ("num", 0)), (head, ("op", "+", ("num", 1), ("call", ("name", "f"), ("name", "t"))))))
+>>> long = (lists, ("rec", (("f", ("fn", "l", body)),), ("name", "f")))
+>>> [scheme_of_program(long), has_scheme(long, (0, ("to", ("of", "List", (truth,)), num))), has_scheme(long, (1, ("var", 0)))]
+[(1, ('to', ('of', 'List', (('var', 0),)), ('num',))), True, False]
+>>> derivation_of(((), ("op", "+", ("num", 1), ("truth", True))), ((0,), (1,)))[0][(1,)]
+('truth',)
+"""
+
+BEHIND_37 = r"""
+>>> from kindsworn.lots import all_places, are_lots_apart, greatest_lots_in, has_kinds, is_least_lot, is_least_mending
+>>> from kindsworn.lots import least_lot, least_lots_in, least_mending, lots_apart, mends
+>>> one, yes = ("num", 1), ("truth", True)
+>>> bad = ((), ("op", "+", one, yes))
+>>> [all_places(bad), has_kinds(bad, ((), (0,))), has_kinds(bad, ((), (1,))), has_kinds(bad, ()), least_lot(bad)]
+[((), (0,), (1,)), True, False, True, ((), (1,))]
+>>> [least_lots_in(bad, all_places(bad)), greatest_lots_in(bad, all_places(bad)), lots_apart(bad)]
+[[((), (1,))], [((), (0,)), ((0,), (1,))], [((), (1,))]]
+>>> [mends(bad, ((1,),)), mends(bad, ((0,),)), least_mending(bad), is_least_mending(bad, ((),))]
+[True, False, ((1,),), True]
+>>> two = ((), ("tuple", (("op", "+", one, yes), ("call", one, yes))))
+>>> [least_lot(two), lots_apart(two)]
+[((0,), (0, 1)), [((0,), (0, 1)), ((1,), (1, 0))]]
+>>> [least_mending(two), are_lots_apart(two, [((1,), (1, 0)), ((0,), (0, 1))]), is_least_lot(two, ((0,), (0, 0), (0, 1))), is_least_lot(two, None)]
+[((0, 1), (1, 0)), True, False, False]
+>>> same = ("fn", "x", ("name", "x"))
+>>> uses = ("tuple", (("call", ("name", "f"), one), ("call", ("name", "f"), yes)))
+>>> [least_lot(((), ("let", "f", same, uses))), has_kinds(((), ("call", ("fn", "f", uses), same)), ((), (0,)))]
+[None, True]
+>>> least_lot(((), ("call", ("fn", "f", uses), same)))
+((0,), (0, 0, 0), (0, 0, 0, 0), (0, 0, 0, 1), (0, 0, 1), (0, 0, 1, 0), (0, 0, 1, 1))
+"""
+
+BEHIND_41 = r"""
+>>> from kindsworn.errors import NotTyped
+>>> from kindsworn.missing import is_left_to, is_missing, is_plain, left_to, missing, needless, some_value
+>>> from kindsworn.patterns import bindings, first_row, lies_in, meet
+>>> from kindsworn.taking import first_unwhole, is_taken, needless_rows, taken
+>>> opt, num, truth = (("Opt", 1, (("No", None), ("Some", ("var", 0)))),), ("num",), ("truth",)
+>>> some, no, pair = ("make", "Some", ("any",)), ("make", "No", None), ("tuple", (("bind", "x"), ("num", 2)))
+>>> [bindings(pair, ("tuple", (("truth", True), ("num", 2)))), bindings(pair, ("tuple", (("num", 2), ("num", 3)))), first_row([("num", 1), ("any",)], ("num", 7))]
+[{'x': ('truth', True)}, None, 1]
+>>> [meet(pair, ("tuple", (("num", 1), ("any",)))), meet(("record", (("a", ("num", 1)),)), ("record", (("b", ("bind", "y")),))), meet(("num", 1), ("num", 2))]
+[('tuple', (('num', 1), ('num', 2))), ('record', (('a', ('num', 1)), ('b', ('any',)))), None]
+>>> [lies_in(("num", 1), ("bind", "x")), lies_in(("any",), ("tuple", (("any",), ("any",))))]
+[True, False]
+>>> some_num = ("of", "Opt", (num,))
+>>> [missing(opt, some_num, [some]), missing(opt, some_num, [some, no]), missing((), truth, [("truth", True)])]
+[('make', 'No', None), None, ('truth', False)]
+>>> [is_missing((), num, [("num", 0)], ("num", 5)), is_missing((), num, [("num", 0)], ("any",)), is_missing((), num, [], None)]
+[True, False, False]
+>>> rows = [("make", "Some", ("num", 1)), ("any",), ("make", "Some", ("num", 2)), no]
+>>> [needless(opt, some_num, rows), is_left_to(opt, some_num, rows, 1, no), is_left_to(opt, some_num, rows, 2, rows[2])]
+[(2, 3), True, False]
+>>> [left_to((), truth, [("truth", True), ("any",)], 1), is_plain(opt, some_num), is_plain(opt, ("of", "Opt", (("to", num, num),)))]
+[('truth', False), True, False]
+>>> some_value(opt, ("of", "Opt", (truth,)), ("make", "Some", ("truth", True)))
+('make', 'Some', ('truth', True))
+>>> half = (opt, ("fn", "o", ("match", ("name", "o"), ((some, ("num", 1)),))))
+>>> [first_unwhole(half), needless_rows(half), is_taken(half)]
+[((0,), ('make', 'No', None)), {}, False]
+>>> body = ("match", ("name", "o"), ((("make", "Some", ("bind", "x")), ("name", "x")), (("any",), ("num", 0)), (no, ("num", 1))))
+>>> [taken((opt, ("fn", "o", body))), needless_rows((opt, ("fn", "o", body)))]
+[(0, ('to', ('of', 'Opt', (('num',),)), ('num',))), {(0,): (2,)}]
+>>> try:
+...     taken(((), ("op", "+", ("num", 1), ("truth", True))))
+... except NotTyped as error:
+...     print(error.lot)
+((), (1,))
+"""
+
+# Of those behind [47], what kindsworn.values and kindsworn.steps do.
+BEHIND_47_OF_STEPS = r"""
+>>> from kindsworn.steps import first_state, next_state
+>>> from kindsworn.values import cells_in, narrowed, show_value, widened
+>>> two, x = ("num", 2), ("name", "x")
+>>> rest = ("op", "+", x, ("num", 1))
+>>> term = ("let", "x", two, rest)
+>>> states = [first_state(term)]
+>>> while next_state(states[-1]) is not None:
+...     states.append(next_state(states[-1]))
+>>> [len(states), states[0] == first_state(term), states[1]]
+[9, True, (('do', ('num', 2), ()), (('let', 'x', ('op', '+', ('name', 'x'), ('num', 1)), ()),), (), ())]
+>>> [states[4][1], states[6][:2], next_state(states[8])]
+[(('op', '+', ('num', 1), ()),), (('do', ('num', 1), ()), (('opto', '+', ('num', 2)),)), None]
+>>> states[8]
+(('give', ('num', 3)), (), (), ())
+>>> swap = ("let", "c", ("new", two), ("let", "u", ("put", ("name", "c"), ("num", 5)), ("tell", ("get", ("name", "c")))))
+>>> end = first_state(swap)
+>>> while next_state(end) is not None:
+...     end = next_state(end)
+>>> end
+(('give', ('tuple', ())), (), ((0, ('num', 5)),), (5,))
+>>> value = ("make", "List.Cons", ("tuple", (two, ("make", "List.Cons", ("tuple", (("cell", 3), ("make", "List.Nil", None)))))))
+>>> [show_value(value), cells_in(value), narrowed((("a", two), ("b", two)), ("b", "c")), widened((("a", two),), {"a": ("truth", True)})]
+['List.Cons (2, List.Cons (cell, List.Nil))', (3,), (('b', ('num', 2)),), (('a', ('truth', True)),)]
 """
 
 
@@ -116,7 +258,19 @@ class ExamplesTest(unittest.TestCase):
         self.holds(BEHIND_22)
 
     def test_behind_26(self):
-        self.holds(BEHIND_26_OF_KINDS)
+        self.holds(BEHIND_26)
+
+    def test_behind_33(self):
+        self.holds(BEHIND_33)
+
+    def test_behind_37(self):
+        self.holds(BEHIND_37)
+
+    def test_behind_41(self):
+        self.holds(BEHIND_41)
+
+    def test_behind_47(self):
+        self.holds(BEHIND_47_OF_STEPS)
 
 
 if __name__ == "__main__":
