@@ -1,10 +1,11 @@
 """The checker: most general derivations, the schemes of programs, and the plain way of a let."""
 
 from kindsworn.derivations import Outline, makers_told, numbered, same_kinds
-from kindsworn.errors import TooMany
+from kindsworn.errors import TooGreat, TooMany
+from kindsworn.forms import MOST_PARTS
 from kindsworn.schemes import Fitting, scheme_of
 from kindsworn.trees import free_names, is_settled, parts_of, places_of, plain_names, with_parts
-from kindsworn.unify import Graph, check_greatness, written
+from kindsworn.unify import Graph, is_too_great, written
 
 MOST_PLACES = 2000
 
@@ -13,20 +14,20 @@ class Solver:
     """The kinds of all places of a program, as the RULES of a lot want them.
 
     kinds: the node of the kind at each place, by its index. named: from tuples of the index of a fn or a match, the
-    part in which a name stands, and the name to nodes. copied: for each place at which variables are GENERAL the
-    nodes that have such variables in them, each behind its parts; kept: all other variables of the kinds there.
-    order: all nodes, each behind its parts; None if the lot has no DERIVATION.
+    part in which a name stands, and the name to nodes. models: from the indexes of all parts whose kinds may have
+    other instances to the numbers of models of these; is_eager tells whether each instance is looked into at once,
+    so that in the end there are no copies. order: all nodes, each behind its parts; None if the lot has no DERIVATION.
     """
 
-    def __init__(self, declarations, outline, lot):
+    def __init__(self, declarations, outline, lot, is_eager):
         self.told = makers_told(declarations)
         self.outline = outline
         self.lot = {place: True for place in lot}
+        self.is_eager = is_eager
         self.graph = Graph()
         self.kinds = [self.graph.variable() for _ in outline.places]
         self.named = {}
-        self.copied = {}
-        self.kept = {}
+        self.models = {}
         self.order = self.graph.ordered(self.kinds) if self.solve() else None
 
     def is_ruled(self, index):
@@ -108,48 +109,50 @@ class Solver:
         one, way = binder
         if (one, way, name) in self.named:
             return self.named[(one, way, name)]
-        node = self.kinds[self.outline.group_part(one, name)]
-        return self.instance(one, node) if self.outline.is_spread(binder) else node
+        part = self.outline.group_part(one, name)
+        if not self.outline.is_spread(binder):
+            return self.kinds[part]
+        node = self.graph.copied(self.models[part])
+        if self.is_eager:
+            self.graph.unfold(node)
+        return node
 
-    def instance(self, index, node):
-        """A node for another instance of a kind that has GENERAL variables at a place."""
-        copies = {}
-        for one in self.copied[index]:
-            head = self.graph.heads[one]
-            copies[one] = self.graph.make(head, [copies.get(part, part) for part in self.graph.parts_at(one)])
-        return copies.get(self.graph.top(node), node)
+    def outer_nodes(self, index):
+        """Nodes in which all variables stand that must not be GENERAL at a place."""
+        nodes = []
+        for name, binder in self.outline.outer[index].items():
+            if self.is_ruled(binder[0]) and self.outline.is_spread(binder):
+                _, _, kept = self.graph.models[self.models[self.outline.group_part(binder[0], name)]]
+                nodes.extend(kept)
+            elif self.is_ruled(binder[0]):
+                nodes.append(self.kind_named(name, binder))
+        return nodes
 
     def share(self, index):
-        """Finds what is GENERAL at a let or a rec; tells whether there is no ring."""
-        order = self.graph.ordered([self.kinds[part] for part in self.outline.shared[index]])
-        roots = []
-        for name, binder in self.outline.outer[index].items():
-            if self.is_ruled(binder[0]):
-                spread = self.outline.is_spread(binder)
-                roots.extend(self.kept[binder[0]] if spread else [self.kind_named(name, binder)])
-        outer = self.graph.ordered(roots)
-        if order is None or outer is None:
+        """Makes models of the kinds that have other instances at a let or a rec; tells whether there is no ring."""
+        outer = self.graph.ordered(self.outer_nodes(index))
+        if outer is None:
             return False
         fixed = {node: True for node in outer}
-        copied = {}
-        for node in order:
-            is_variable = self.graph.heads[node] is None
-            if is_variable and node not in fixed:
-                copied[node] = True
-            elif not is_variable and any([part in copied for part in self.graph.parts_at(node)]):
-                copied[node] = True
-        self.copied[index] = list(copied)
-        self.kept[index] = [node for node in order if self.graph.heads[node] is None and node in fixed]
+        for part in self.outline.shared[index]:
+            order = self.graph.ordered([self.kinds[part]])
+            if order is None:
+                return False
+            self.models[part] = self.graph.modelled(order, fixed)
         return True
 
     def general_at(self, index, integers):
         """The ascending tuple of the variables that are GENERAL at a place."""
-        return tuple(sorted([integers[node] for node in self.copied[index] if self.graph.heads[node] is None]))
+        found = {}
+        for part in self.outline.shared[index]:
+            _, rows, _ = self.graph.models[self.models[part]]
+            found.update({integers[node]: True for node, head, _ in rows if head is None})
+        return tuple(sorted(found))
 
 
 def is_solvable(declarations, outline, lot):
     """Whether a lot of a program with these declarations, and such a term, has a DERIVATION, however great."""
-    return Solver(declarations, outline, lot).order is not None
+    return Solver(declarations, outline, lot, False).order is not None
 
 
 def has_derivation(program, lot):
@@ -160,16 +163,25 @@ def has_derivation(program, lot):
 def derivation_of(program, lot):
     """A DERIVATION of a lot that is MOST GENERAL, None if the lot has none."""
     outline = Outline(program[1])
-    solver = Solver(program[0], outline, lot)
+    solver = Solver(program[0], outline, lot, False)
     if solver.order is None:
         return None
-    tops = [solver.graph.top(node) for node in solver.kinds]
-    check_greatness(solver.graph, solver.order, tops)
-    variables = [node for node in solver.order if solver.graph.heads[node] is None]
+    tops = {solver.graph.top(node): True for node in solver.kinds}
+    if any([is_too_great(solver.graph, top) for top in tops]):
+        raise TooGreat(MOST_PARTS)
+    # As no kind is too great, all of them can be looked into.
+    return derivation_told(outline, Solver(program[0], outline, lot, True))
+
+
+def derivation_told(outline, solver):
+    """The DERIVATION that an eager solver has found, no kind in which is too great."""
+    graph = solver.graph
+    variables = [node for node in solver.order if graph.heads[node] is None]
     integers = {node: at for at, node in enumerate(variables)}
-    made = written(solver.graph, solver.order, integers)
-    kinds = {place: made[top] for place, top in zip(outline.places, tops)}
-    return (kinds, {outline.places[index]: solver.general_at(index, integers) for index in sorted(solver.copied)})
+    made = written(graph, solver.order, integers)
+    kinds = {place: made[graph.top(node)] for place, node in zip(outline.places, solver.kinds)}
+    ruled = [index for index in sorted(outline.shared) if solver.is_ruled(index)]
+    return (kinds, {outline.places[index]: solver.general_at(index, integers) for index in ruled})
 
 
 def scheme_of_program(program):
@@ -181,7 +193,7 @@ def scheme_of_program(program):
 def has_scheme(program, scheme):
     """Whether all instances of a SCHEME are kinds that a program can have."""
     outline = Outline(program[1])
-    solver = Solver(program[0], outline, outline.places)
+    solver = Solver(program[0], outline, outline.places, False)
     return solver.order is not None and Fitting(solver.graph).fits(solver.kinds[0], scheme[1])
 
 

@@ -42,6 +42,7 @@ class Fitting:
         while len(todo) > 0:
             one, other = todo.pop()
             top = self.graph.top(one)
+            self.graph.unfold(top)
             head = self.graph.heads[top]
             if head is None:
                 if not self.notes(top, other):
