@@ -10,6 +10,100 @@ from kindsworn.unify import Graph, is_too_great, written
 MOST_PLACES = 2000
 
 
+class Copying(Graph):
+    """A graph in which kinds are copied, while no part of a copy is made before somebody looks at it.
+
+    A model is a kind that does not change any more, but for the leaves that it keeps, variables most of them; a copy
+    has new ones for its others, and shares what has no leaves. models: tuples of a root, of a dict from its nodes
+    to their heads, parts and leaves, and of the lists of the leaves that are kept, and of the others, each behind
+    those in it. The head of a copy is ("fresh", number of the model), its parts stand for what is kept; that of a part
+    of a copy ("copy", number of the model, node), its parts stand for the leaves of the node. A fresh copy is itself
+    a leaf. begun: a dict from numbers of models, nodes and what stands for their leaves to the parts of copies.
+    """
+
+    def __init__(self):
+        Graph.__init__(self)
+        self.models = []
+        self.begun = {}
+
+    def model(self, order, fixed):
+        """The number of a new model, whose nodes are told in order, each behind its parts; the last one is the root.
+
+        It keeps the leaves that a dict has as keys.
+        """
+        known = {}
+        kept = []
+        others = []
+        for node in order:
+            head = self.heads[node]
+            parts = self.parts_at(node)
+            leaves = {leaf: True for part in parts if part in known for leaf in known[part][2]}
+            if head is None or head[0] == "fresh":
+                leaves[node] = True
+                if node in fixed:
+                    kept.append(node)
+                else:
+                    others.append(node)
+            if len(leaves) > 0:
+                known[node] = (head, parts, tuple(list(leaves)))
+        self.models.append((order[-1], known, kept, others))
+        return len(self.models) - 1
+
+    def copied(self, number):
+        """A node for a copy of a model; its root itself if nothing in it would be new."""
+        root, known, kept, others = self.models[number]
+        if len(others) == 0:
+            return root
+        return self.variable() if known[root][0] is None else self.make(("fresh", number), kept)
+
+    def part_copied(self, number, node, env):
+        """A node for the copy of a part of a model; env has what stands for leaves."""
+        if node in env:
+            return env[node]
+        _, known, _, _ = self.models[number]
+        if node not in known:
+            return node
+        given = tuple([env[leaf] for leaf in known[node][2]])
+        if given == known[node][2]:
+            return node
+        if (number, node, given) not in self.begun:
+            self.begun[(number, node, given)] = self.make(("copy", number, node), given)
+        return self.begun[(number, node, given)]
+
+    def with_new_leaves(self, number, given):
+        """The dict from the leaves of a model to what stands for them: something given for those that are kept."""
+        _, known, kept, others = self.models[number]
+        env = dict(zip(kept, given))
+        for leaf in others:
+            head, parts, _ = known[leaf]
+            env[leaf] = self.make(head, [self.part_copied(number, part, env) for part in parts])
+        return env
+
+    def unfold(self, node):
+        """Gives a copy, or a part of one, the head of what it is a copy of, and copies of its parts."""
+        while self.heads[node] is not None and self.heads[node][0] in ("fresh", "copy"):
+            number = self.heads[node][1]
+            root, known, _, _ = self.models[number]
+            if self.heads[node][0] == "fresh":
+                original = root
+                env = self.with_new_leaves(number, self.insides[node])
+            else:
+                original = self.heads[node][2]
+                env = dict(zip(known[original][2], self.insides[node]))
+            head, parts, _ = known[original]
+            self.heads[node] = head
+            self.insides[node] = tuple([self.part_copied(number, part, env) for part in parts])
+
+    def unfold_all(self, node):
+        """Does so with all that is in a copy."""
+        todo = [node]
+        while len(todo) > 0:
+            one = self.top(todo.pop())
+            if self.heads[one] is not None and self.heads[one][0] in ("fresh", "copy"):
+                self.unfold(one)
+                todo.extend(self.insides[one])
+
+
 class Solver:
     """The kinds of all places of a program, as the RULES of a lot want them.
 
@@ -24,7 +118,7 @@ class Solver:
         self.outline = outline
         self.lot = {place: True for place in lot}
         self.is_eager = is_eager
-        self.graph = Graph()
+        self.graph = Copying()
         self.kinds = [self.graph.variable() for _ in outline.places]
         self.named = {}
         self.models = {}
@@ -114,7 +208,7 @@ class Solver:
             return self.kinds[part]
         node = self.graph.copied(self.models[part])
         if self.is_eager:
-            self.graph.unfold(node)
+            self.graph.unfold_all(node)
         return node
 
     def outer_nodes(self, index):
@@ -122,7 +216,7 @@ class Solver:
         nodes = []
         for name, binder in self.outline.outer[index].items():
             if self.is_ruled(binder[0]) and self.outline.is_spread(binder):
-                _, _, kept = self.graph.models[self.models[self.outline.group_part(binder[0], name)]]
+                _, _, kept, _ = self.graph.models[self.models[self.outline.group_part(binder[0], name)]]
                 nodes.extend(kept)
             elif self.is_ruled(binder[0]):
                 nodes.append(self.kind_named(name, binder))
@@ -138,15 +232,15 @@ class Solver:
             order = self.graph.ordered([self.kinds[part]])
             if order is None:
                 return False
-            self.models[part] = self.graph.modelled(order, fixed)
+            self.models[part] = self.graph.model(order, fixed)
         return True
 
     def general_at(self, index, integers):
         """The ascending tuple of the variables that are GENERAL at a place."""
         found = {}
         for part in self.outline.shared[index]:
-            _, rows, _ = self.graph.models[self.models[part]]
-            found.update({integers[node]: True for node, head, _ in rows if head is None})
+            _, _, _, others = self.graph.models[self.models[part]]
+            found.update({integers[node]: True for node in others})
         return tuple(sorted(found))
 
 

@@ -11,17 +11,13 @@ class Graph:
 
     A node has a head and parts, which are nodes. A variable, or a rest, of which nothing is known has the head
     None. A record has one part, its row. The head of a row is ("row", labels): it has a part for each label, and
-    behind these the row of all other fields; or it is ("end",), without any fields. A node with the head
-    ("copy", number) is a copy of a model which nobody has looked into; its parts stand for what the model keeps.
-    A model is a tuple of its root, of rows, and of the nodes that it keeps. Each row tells a node of it, each behind
-    its parts, with its head and parts; the root is that of the last one.
+    behind these the row of all other fields; or it is ("end",), without any fields.
     """
 
     def __init__(self):
         self.links = []
         self.heads = []
         self.insides = []
-        self.models = []
 
     def make(self, head, parts):
         """A new node with this head and these parts."""
@@ -61,6 +57,9 @@ class Graph:
             node = self.links[node]
         return node
 
+    def unfold(self, node):
+        """Makes head and parts of a node known; here they are. (What makes a part not before it is asked for, does.)"""
+
     def parts_at(self, node):
         """The nodes by which the parts of a node are told."""
         return [self.top(part) for part in self.insides[node]]
@@ -69,10 +68,12 @@ class Graph:
         """A dict from the labels of a row to nodes, and the node behind all of them: an end, or a rest."""
         fields = {}
         last = self.top(row)
+        self.unfold(last)
         while self.heads[last] is not None and self.heads[last][0] == "row":
             for label, part in zip(self.heads[last][1], self.insides[last]):
                 fields[label] = part
             last = self.top(self.insides[last][-1])
+            self.unfold(last)
         return (fields, last)
 
     def merge(self, one, other):
@@ -129,45 +130,6 @@ class Graph:
         """A new row that has the fields of a dict, and those of the row rest."""
         labels = sorted(fields)
         return self.make(("row", tuple(labels)), [fields[label] for label in labels] + [rest])
-
-    def modelled(self, order, fixed):
-        """The number of a new model, whose nodes are told in order, each behind its parts, the root as the last one.
-
-        It keeps the variables, and the copies, that a dict has as keys; all others come anew in each copy.
-        """
-        rows = []
-        kept = []
-        changed = {}
-        for node in order:
-            head = self.heads[node]
-            parts = self.parts_at(node)
-            is_leaf = head is None or head[0] == "copy"
-            if is_leaf or any([part in changed for part in parts]):
-                changed[node] = True
-                if is_leaf and node in fixed:
-                    kept.append(node)
-                else:
-                    rows.append((node, head, parts))
-        is_same = all([head is not None and head[0] != "copy" for _, head, _ in rows])
-        self.models.append((order[-1], [] if is_same else rows, kept))
-        return len(self.models) - 1
-
-    def copied(self, number):
-        """A node for a copy of a model."""
-        root, rows, kept = self.models[number]
-        if len(rows) == 0 or rows[-1][0] != root:
-            return root
-        return self.variable() if rows[-1][1] is None else self.make(("copy", number), kept)
-
-    def unfold(self, node):
-        """Looks into a node, if it is a copy: it gets the head of what it is a copy of, and copies of its parts."""
-        while self.heads[node] is not None and self.heads[node][0] == "copy":
-            _, rows, kept = self.models[self.heads[node][1]]
-            made = dict(zip(kept, self.insides[node]))
-            for one, head, parts in rows[:-1]:
-                made[one] = self.make(head, [made.get(part, part) for part in parts])
-            self.heads[node] = rows[-1][1]
-            self.insides[node] = tuple([made.get(part, part) for part in rows[-1][2]])
 
     def ordered(self, roots):
         """All nodes in these, each behind its parts; None if one is a part of itself, by a ring."""

@@ -15,7 +15,7 @@ from kindsworn.trees import are_alike, free_names, is_settled, part_at, parts_of
 from tests.anything import frozen
 from tests.plain import alike_text, comes_to, kinds_of, put, shared_places
 from tests.test_derivations import HEAD, rests_of
-from tests.typed import DECLARATIONS, mixed_program, random_program, some_kind
+from tests.typed import DECLARATIONS, lets_program, mixed_program, random_program, some_kind
 
 NUM, TRUTH, UNIT = ("num",), ("truth",), ("tuple", ())
 NAME = lambda name: ("name", name)
@@ -75,6 +75,21 @@ class DerivationsTest(unittest.TestCase):
             if kinds_of(program, places) is not None:
                 self.assertIs(has_derivation(program, some_lot(chance, places)), True)
         self.assertGreater(min(met.values()), 100)
+
+    def test_random_lets(self):
+        chance = random.Random(35)
+        met = {True: 0, False: 0}
+        general = 0
+        for _ in range(900):
+            program = lets_program(chance)
+            places = places_of(program[1])
+            if len(places) > 90:
+                continue
+            fine = self.right(program, places)
+            met[fine] += 1
+            general += fine and any(derivation_of(program, places)[1].values())
+            self.right(program, some_lot(chance, places))
+        self.assertGreater(min(list(met.values()) + [general]), 100)
 
     def test_lots(self):
         program = program_of("(fn x -> x + true) ()")
@@ -277,13 +292,65 @@ class TooGreatTest(unittest.TestCase):
         self.assertIs(has_scheme(calls, scheme("num -> ?0")), False)
 
 
-def calling(many):
-    """Lets of functions, each of which calls the one ahead of it twice."""
-    term = NAME(f"x{many}")
+def calling(many, last=None, times=2):
+    """Lets of functions, each of which calls the one ahead of it twice, or more often, and last behind them."""
+    term = last or NAME(f"x{many}")
     for at in range(many, 0, -1):
-        before = NAME(f"x{at - 1}")
-        term = ("let", f"x{at}", ("fn", "x", ("call", before, ("call", before, NAME("x")))), term)
+        body = NAME("x")
+        for _ in range(times):
+            body = ("call", NAME(f"x{at - 1}"), body)
+        term = ("let", f"x{at}", ("fn", "x", body), term)
     return term
+
+
+class AtOnceTest(unittest.TestCase):
+    """Kinds that would be far more if all that is shared in them were written out."""
+
+    def told(self, many, last, times=2):
+        program = ((), ("let", "x0", ("fn", "x", ("tuple", (NAME("x"),) * 2)), calling(many, last, times)))
+        self.assertTrue(is_program(program))
+        return has_derivation(program, places_of(program[1]))
+
+    def test_calls(self):
+        use = lambda many, one: ("call", NAME(f"x{many}"), one)
+        for many, times in [(4, 2), (15, 2), (30, 2), (14, 3), (12, 5)]:
+            both = lambda one, other: ("if", ("truth", True), use(many, one), use(many, other))
+            self.assertIs(self.told(many, both(("num", 1), ("num", 2)), times), True)
+            self.assertIs(self.told(many, both(("num", 1), ("truth", True)), times), False)
+            self.assertIs(self.told(many, ("op", "+", ("num", 1), use(many, ("num", 1))), times), False)
+            pair = ("tuple", (("bind", "a"), ("bind", "b")))
+            look = lambda one: ("match", use(many, ("num", 1)), ((("tuple", (pair, ("any",))), one),))
+            self.assertIs(self.told(many, look(("if", ("truth", True), NAME("a"), NAME("b"))), times), True)
+            self.assertIs(self.told(many, look(("op", "+", NAME("a"), NAME("b"))), times), False)
+            # A function whose argument stands in what it tells of it.
+            ring = ("fn", "z", ("if", ("truth", True), NAME("z"), use(many, NAME("z"))))
+            self.assertIs(self.told(many, ring, times), False)
+            self.assertIs(self.told(many, ("fn", "z", use(many, NAME("z"))), times), True)
+
+    def test_pairs(self):
+        for many in (4, 17, 40):
+            lets = lambda last: ((), ("let", "x0", ("fn", "x", NAME("x")), doubled(many, last)))
+            first, second = ("bind", "a"), ("bind", "b")
+            for last, right in [(NAME(f"x{many}"), True), (("call", NAME(f"x{many}"), ("num", 1)), False),
+                                (("match", NAME(f"x{many}"), ((("tuple", (first, second)), ("tuple", (NAME("a"), NAME("b")))),)), True),
+                                (("if", ("truth", True), NAME(f"x{many}"), NAME(f"x{many}")), True),
+                                (("if", ("truth", True), NAME(f"x{many}"), NAME(f"x{many - 1}")), False)]:
+                program = lets(last)
+                self.assertIs(has_derivation(program, places_of(program[1])), right, last)
+            self.assertIs(has_scheme(lets(NAME(f"x{many}")), scheme("?0 -> ?0")), False)
+            self.assertIs(has_scheme(lets(NAME("x1")), scheme("(num -> num, truth -> truth)")), True)
+            self.assertIs(has_scheme(lets(NAME("x2")), scheme("((?0 -> ?0, ?1 -> ?1), (?2 -> ?2, ?2 -> ?2))")), True)
+            self.assertIs(has_scheme(lets(NAME("x2")), scheme("((?0 -> ?0, ?1 -> ?1), (?2 -> ?2, ?2 -> ?1))")), False)
+
+    def test_records_within_functions(self):
+        """Rests that are copied, within functions whose argument is not copied."""
+        text = ("fn z -> let f = fn r -> (r.a, z, fn s -> if true then s.b else z) in let g = fn r -> (f r, f r) in let h = fn r -> (g r, g r) in "
+                "(h {a = 1}, h {a = true, c = z}, z + 1)")
+        program = program_of(text)
+        found = derivation_of(program, places_of(program[1]))
+        kinds = kinds_of(program, places_of(program[1]))
+        self.assertEqual(alike_text(list(found[0].values())), alike_text(list(kinds.values())))
+        self.assertIs(is_derivation(program, places_of(program[1]), found), True)
 
 
 def settled_lets(term):

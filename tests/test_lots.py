@@ -289,6 +289,16 @@ class DoublingTest(unittest.TestCase):
         self.assertIs(has_kinds(calls, all_places(calls)), True)
         self.assertIsNone(least_lot(calls))
 
+    def test_doubling_by_calls(self):
+        calls = lambda last: ((), ("let", "x0", ("fn", "x", ("tuple", (NAME("x"),) * 2)), calling(14, last, 3)))
+        fine = calls(None)
+        self.assertEqual([least_lot(fine), lots_apart(fine), least_mending(fine)], [None, [], ()])
+        bad = calls(("tuple", (NAME("x14"), BAD)))
+        self.assertEqual(lots_apart(bad), [((1,) * 16, (1,) * 17)])
+        self.assertEqual(least_mending(bad), ((1,) * 17,))
+        deep = calls(("op", "+", ("num", 1), ("call", NAME("x14"), ("num", 1))))
+        self.assertIs(is_least_lot(deep, least_lot(deep)), True)
+
     def test_least_lots_in(self):
         program = ((), ("let", "x0", ("num", 1), doubled(13, ("tuple", (NAME("x13"), BAD)))))
         places = all_places(program)

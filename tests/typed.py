@@ -202,3 +202,57 @@ def mixed_program(chance, room=4):
     if around is not None and around[0] == "rec" and one[-1] < len(around[1]) and part[0] != "fn":
         return (declarations, term)
     return (declarations, without_free(with_part(term, one, part), chance))
+
+
+def loose_term(chance, env, room):
+    """A term of these names, whether it has a kind or not."""
+    way = chance.randrange(14 if room else 4)
+    name = lambda: ("name", chance.choice(env)) if env else ("num", 1)
+    again = lambda more=(): loose_term(chance, env + list(more), room - 1)
+    one, other = chance.choice("abcd"), chance.choice("xyz")
+    if way < 3:
+        return name()
+    if way == 3:
+        return chance.choice([("num", 1), UNIT, ("truth", True)])
+    if way < 6:
+        return ("fn", other, again([other]))
+    if way < 8:
+        return ("call", name() if chance.randrange(2) else again(), again())
+    if way == 8:
+        return ("tuple", (again(), again()))
+    if way == 9:
+        return ("let", one, again(), again([one]))
+    if way == 10:
+        return ("record", tuple((label, again()) for label in chance.choice(["l", "lm"])))
+    if way == 11:
+        return ("field", name() if chance.randrange(3) else again(), chance.choice("lm"))
+    if way == 12:
+        pattern = ("tuple", (("bind", one), ("bind", other)))
+        return ("match", again(), ((pattern, again([one, other])),))
+    return ("rec", ((one, ("fn", other, again([one, other]))),), again([one]))
+
+
+def settled_term(chance, env, room):
+    """A term of these names, which is often SETTLED."""
+    way = chance.randrange(4)
+    if way < 2:
+        name = chance.choice("xyz")
+        return ("fn", name, loose_term(chance, env + [name], room))
+    if way == 2 and room > 0:
+        return ("tuple", (settled_term(chance, env, room - 1), ("name", chance.choice(env)) if env else ("num", 1)))
+    return loose_term(chance, env, room)
+
+
+def lets_program(chance):
+    """A program of lets, and of functions around some of them, each of which uses the ones ahead."""
+    env = []
+    heads = []
+    for _ in range(chance.randrange(1, 6)):
+        name = chance.choice("abcdf")
+        one = None if chance.randrange(5) == 0 else settled_term(chance, env, chance.choice([1, 2, 3]))
+        heads.append((name, one))
+        env = env + [name]
+    term = loose_term(chance, env, 2)
+    for name, one in heads[::-1]:
+        term = ("fn", name, term) if one is None else ("let", name, one, term)
+    return ((), term)
