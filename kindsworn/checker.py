@@ -213,14 +213,9 @@ class Solver:
 
     def outer_nodes(self, index):
         """Nodes in which all variables stand that must not be GENERAL at a place."""
-        nodes = []
-        for name, binder in self.outline.outer[index].items():
-            if self.is_ruled(binder[0]) and self.outline.is_spread(binder):
-                _, _, kept, _ = self.graph.models[self.models[self.outline.group_part(binder[0], name)]]
-                nodes.extend(kept)
-            elif self.is_ruled(binder[0]):
-                nodes.append(self.kind_named(name, binder))
-        return nodes
+        outer = self.outline.outer[index]
+        # Another instance of a kind has no variable in common with it but those that are not GENERAL there.
+        return [self.kind_named(name, outer[name]) for name in outer if self.is_ruled(outer[name][0])]
 
     def share(self, index):
         """Makes models of the kinds that have other instances at a let or a rec; tells whether there is no ring."""

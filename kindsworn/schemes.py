@@ -52,7 +52,7 @@ class Fitting:
                     return False
             else:
                 parts = inner("kind", other)
-                if other[0] == "record" or head != headless(other) or len(parts) != len(self.graph.insides[top]):
+                if head != headless(other) or len(parts) != len(self.graph.insides[top]):
                     return False
                 todo.extend(list(zip(self.graph.insides[top], parts)))
         return True

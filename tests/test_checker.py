@@ -466,6 +466,15 @@ class SpreadOutTest(unittest.TestCase):
             else:
                 with self.assertRaises(errors.TooMany):
                     spread_out(program)
+        # A let of a name that stands nowhere becomes a match, a tuple and a name; names of functions are places, too.
+        for more, fine in [(12, True), (13, False)]:
+            used = ("fn", "z", ("tuple", tuple(names[:5]) + (names[6],) + (("name", "z"),) * more))
+            program = ((), twice(9, ("let", "y", ("num", 1), used)))
+            if fine:
+                self.assertEqual(size_of(spread_out(program)[1]), 2000)
+            else:
+                with self.assertRaises(errors.TooMany):
+                    spread_out(program)
         unused = ((), twice(9, ("let", "y", ("tuple", tuple(names)), ("num", 1))))
         with self.assertRaises(errors.TooMany):
             spread_out(unused)
