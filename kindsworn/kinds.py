@@ -129,7 +129,7 @@ def put_after(one, other):
     return made
 
 
-def headless(kind):
+def head_of(kind):
     """What a KIND begins with, and what tells it apart from others with the same kinds in it."""
     if kind[0] == "record":
         return ("record", tuple([label for label, _ in kind[1]]), None if kind[2] is None else kind[2][1])
@@ -141,7 +141,7 @@ def headless(kind):
 class Shelf:
     """Kinds, however great, each told by a number of its own: the same kinds by the same number.
 
-    heads: what each kind begins with, as headless tells. insides: the numbers of the kinds in it. sizes, depths:
+    heads: what each kind begins with, as head_of tells. insides: the numbers of the kinds in it. sizes, depths:
     how many parts it has, and how deep it is, told only as far as tells that it is too much.
     """
 
@@ -177,7 +177,7 @@ class Shelf:
         parts = []
         for part in inner("kind", kind):
             parts.append(self.built(part, env))
-        head = headless(kind)
+        head = head_of(kind)
         if head[0] != "record" or head[2] not in env:
             return self.make(head, parts)
         labels, more, rest = env[head[2]]

@@ -1,6 +1,6 @@
 """Schemes: their instances, what two of them have in common, and matching."""
 
-from kindsworn.kinds import filled, headless, rests_in, variables_in
+from kindsworn.kinds import filled, head_of, rests_in, variables_in
 from kindsworn.shapes import inner
 from kindsworn.unify import Graph, check_greatness, written
 
@@ -52,7 +52,7 @@ class Fitting:
                     return False
             else:
                 parts = inner("kind", other)
-                if head != headless(other) or len(parts) != len(self.graph.insides[top]):
+                if head != head_of(other) or len(parts) != len(self.graph.insides[top]):
                     return False
                 todo.extend(list(zip(self.graph.insides[top], parts)))
         return True
