@@ -63,6 +63,40 @@ def parted(rows, pattern, row, spare):
     return made
 
 
+def pattern_at(pattern, path):
+    """The part of a pattern to which a path of numbers of parts leads."""
+    part = pattern
+    for index in path:
+        part = inner("pattern", part)[index]
+    return part
+
+
+def with_any(pattern, path):
+    """The pattern that has any where a path leads."""
+    if path == ():
+        return ANY
+    parts = inner("pattern", pattern)
+    parts[path[0]] = with_any(parts[path[0]], path[1:])
+    return with_inner("pattern", pattern, parts)
+
+
+def loosened(pattern, wanted, patterns):
+    """The pattern that has any wherever it then still lies in what is wanted, and meets none of some patterns.
+
+    Without this it may tell a number where each one is left over, so that those told again and again never end.
+    """
+    todo = [()]
+    while len(todo) > 0:
+        path = todo.pop()
+        other = with_any(pattern, path)
+        if lies_in(other, wanted) and not any([meet(other, row) is not None for row in patterns]):
+            pattern = other
+        else:
+            many = len(inner("pattern", pattern_at(pattern, path)))
+            todo.extend([path + (index,) for index in range(many)][::-1])
+    return pattern
+
+
 def left_of(declarations, pattern, patterns):
     """A PATTERN, with nothing bound, that LIES IN one and meets none of some patterns, None if there is none."""
     rows = rows_told(declarations)
@@ -72,7 +106,7 @@ def left_of(declarations, pattern, patterns):
         one = todo.pop()
         met = [other for other in patterns if meet(one, other) is not None]
         if len(met) == 0:
-            return one
+            return loosened(one, pattern, patterns)
         if not any([lies_in(one, other) for other in met]):
             todo.extend(parted(rows, one, met[0], spare)[::-1])
     return None

@@ -188,6 +188,39 @@ class MissingTest(unittest.TestCase):
                 patterns.append(found)
             self.assertIsNone(missing(DECLARATIONS, read_kind(kind), patterns), (kind, [show_pattern(one) for one in patterns]))
 
+    def test_numbers_that_do_not_matter(self):
+        """Where any number is left over, no number is told: so it ends, if finitely many can make patterns whole."""
+        for kind, rows, most in [("(num, truth)", ["(0, true)", "(x, true)"], 1), ("(truth, num)", ["(true, 3)", "(true, x)", "(true, 4)"], 1), ("(num, num)", ["(0, 1)", "(1, 0)", "(_, _)"], 0),
+                                 ("(num, Opt (num, truth))", ["(0, Some (1, true))", "(_, Some (_, true))", "(_, Some (2, true))"], 2), ("{a: num, b: truth}", ["{a = 1, b = false}", "{b = false}"], 1),
+                                 ("(num, num, Opt truth)", ["(1, 1, No)", "(1, _, No)", "(_, _, No)", "(5, _, Some true)", "(_, _, Some true)"], 1), ("(List num, truth)", ["(Cons (1, Nil), true)", "(_, true)"], 1)]:
+            patterns = rows_told(*rows)
+            for _ in range(most):
+                found = self.right(DECLARATIONS, read_kind(kind), patterns)
+                self.assertNotIn("num", repr(found))
+                patterns.append(found)
+            self.assertIsNone(missing(DECLARATIONS, read_kind(kind), patterns), (kind, [show_pattern(one) for one in patterns]))
+
+    def test_random_numbers_that_do_not_matter(self):
+        chance = random.Random(48)
+        many = 0
+        for _ in range(6000):
+            kind = plain_kind(chance, chance.choice([1, 2]))
+            loose = [without_numbers(Maker(chance, 0).pattern(kind, {}, 3)) for _ in range(chance.randrange(1, 4))]
+            # Rows ahead that lie in those behind, with numbers, change nothing of what is left over.
+            ahead = [with_numbers(chance, one) for one in loose]
+            patterns = [one for one in ahead if suits(DECLARATIONS, one, kind, {})] + loose
+            if "num" not in repr(patterns):
+                continue
+            for _ in range(100):
+                found = self.right(DECLARATIONS, kind, patterns)
+                if found is None:
+                    break
+                self.assertNotIn("num", repr(found))
+                patterns.append(found)
+                many += 1
+            self.assertIsNone(found)
+        self.assertGreater(many, 60)
+
     def test_random_ones_again_and_again(self):
         chance = random.Random(41)
         for _ in range(120):
@@ -219,6 +252,32 @@ class MissingTest(unittest.TestCase):
         both = [("tuple", (("any",),) * at + (("truth", True),) + (("any",),) * (19 - at)) for at in range(20)]
         self.assertEqual(self.right((), kind, both), ("tuple", (("truth", False),) * 20))
         self.assertIsNone(self.right((), kind, both + [("tuple", (("truth", False),) * 20)]))
+
+
+def without_numbers(pattern):
+    """The pattern with any instead of each number."""
+    if pattern[0] == "num":
+        return ("any",)
+    if pattern[0] == "tuple":
+        return ("tuple", tuple(without_numbers(part) for part in pattern[1]))
+    if pattern[0] == "record":
+        return ("record", tuple((label, without_numbers(part)) for label, part in pattern[1]))
+    if pattern[0] == "make" and pattern[2] is not None:
+        return ("make", pattern[1], without_numbers(pattern[2]))
+    return pattern
+
+
+def with_numbers(chance, pattern):
+    """The pattern with a number instead of some that match all; it need not suit the same kinds."""
+    if pattern[0] in ("any", "bind"):
+        return ("num", chance.randrange(4)) if chance.randrange(2) else pattern
+    if pattern[0] == "tuple":
+        return ("tuple", tuple(with_numbers(chance, part) for part in pattern[1]))
+    if pattern[0] == "record":
+        return ("record", tuple((label, with_numbers(chance, part)) for label, part in pattern[1]))
+    if pattern[0] == "make" and pattern[2] is not None:
+        return ("make", pattern[1], with_numbers(chance, pattern[2]))
+    return pattern
 
 
 class IsMissingTest(unittest.TestCase):
