@@ -8,6 +8,26 @@ from kindsworn.values import narrowed, widened
 
 UNIT = ("tuple", ())
 
+# What stands in FRAMES behind the word with which they begin.
+FRAME_FORMS = {
+    "argument": ("term", "env"),
+    "apply": ("value",),
+    "let": ("name", "term", "env"),
+    "if": ("term", "term", "env"),
+    "tuple": ("values", "terms", "env"),
+    "record": ("labels", "values", "terms", "env"),
+    "make": ("maker",),
+    "field": ("label",),
+    "match": ("rows", "env"),
+    "new": (),
+    "get": (),
+    "put": ("term", "env"),
+    "putto": ("value",),
+    "op": ("sign", "term", "env"),
+    "opto": ("sign", "value"),
+    "tell": (),
+}
+
 
 def kept(env, term):
     """The part of an ENV that has the names free in a term."""
