@@ -226,11 +226,21 @@ def items_at(modules, name):
     return nest_of(modules, name)[0]
 
 
-def whose(modules, name, place):
-    """The module's name, the item's index, and the rest of a PLACE behind that of the item; None for the midst."""
-    items, midst = nest_of(modules, name)
+def owner(items, midst, place):
+    """What whose tells of a PLACE, by what nest_of tells."""
     if place == midst:
         return None
     ahead = [item for item in items if place[:len(item[2])] == item[2]]
     one, index, around = ahead[-1]
     return (one, index, place[len(around):])
+
+
+def owners(modules, name, lot):
+    """The tuple of what whose tells of each PLACE of a lot."""
+    items, midst = nest_of(modules, name)
+    return tuple([owner(items, midst, place) for place in lot])
+
+
+def whose(modules, name, place):
+    """The module's name, the item's index, and the rest of a PLACE behind that of the item; None for the midst."""
+    return owners(modules, name, (place,))[0]
