@@ -212,32 +212,122 @@ BEHIND_41 = r"""
 ((), (1,))
 """
 
-# Of those behind [47], what kindsworn.values and kindsworn.steps do.
-BEHIND_47_OF_STEPS = r"""
+BEHIND_47 = r"""
+>>> from kindsworn.runs import reached_cells, run_of, states_of, trimmed
 >>> from kindsworn.steps import first_state, next_state
 >>> from kindsworn.values import cells_in, narrowed, show_value, widened
 >>> two, x = ("num", 2), ("name", "x")
 >>> rest = ("op", "+", x, ("num", 1))
 >>> term = ("let", "x", two, rest)
->>> states = [first_state(term)]
->>> while next_state(states[-1]) is not None:
-...     states.append(next_state(states[-1]))
+>>> states = states_of(term, 100)
 >>> [len(states), states[0] == first_state(term), states[1]]
 [9, True, (('do', ('num', 2), ()), (('let', 'x', ('op', '+', ('name', 'x'), ('num', 1)), ()),), (), ())]
->>> [states[4][1], states[6][:2], next_state(states[8])]
-[(('op', '+', ('num', 1), ()),), (('do', ('num', 1), ()), (('opto', '+', ('num', 2)),)), None]
->>> states[8]
-(('give', ('num', 3)), (), (), ())
+>>> [states[4][1], states[6][:2], next_state(states[8]), run_of(term, 3)[0], run_of(term, 100)]
+[(('op', '+', ('num', 1), ()),), (('do', ('num', 1), ()), (('opto', '+', ('num', 2)),)), None, 'going', ('ended', (('give', ('num', 3)), (), (), ()), 8)]
 >>> swap = ("let", "c", ("new", two), ("let", "u", ("put", ("name", "c"), ("num", 5)), ("tell", ("get", ("name", "c")))))
->>> end = first_state(swap)
->>> while next_state(end) is not None:
-...     end = next_state(end)
->>> end
-(('give', ('tuple', ())), (), ((0, ('num', 5)),), (5,))
+>>> end = run_of(swap, 100)[1]
+>>> [end, trimmed(end)[2], reached_cells(end)]
+[(('give', ('tuple', ())), (), ((0, ('num', 5)),), (5,)), (), ()]
+>>> [run_of(("call", two, two), 100)[0], run_of(("rec", (("f", ("fn", "n", ("call", ("name", "f"), ("name", "n")))),), ("call", ("name", "f"), two)), 50)[0]]
+['stuck', 'going']
 >>> value = ("make", "List.Cons", ("tuple", (two, ("make", "List.Cons", ("tuple", (("cell", 3), ("make", "List.Nil", None)))))))
 >>> [show_value(value), cells_in(value), narrowed((("a", two), ("b", two)), ("b", "c")), widened((("a", two),), {"a": ("truth", True)})]
 ['List.Cons (2, List.Cons (cell, List.Nil))', (3,), (('b', ('num', 2)),), (('a', ('truth', True)),)]
 """
+
+BEHIND_53 = r"""
+>>> from kindsworn.collector import collected, reached, reached_words
+>>> from kindsworn.heap import header_of, object_at, read_header, size_at, with_object
+>>> from kindsworn.machine import Machine, end_of, roots
+>>> from kindsworn.words import content_of, immediate, is_code, is_row, is_word, sort_of
+>>> [immediate(0, 7), immediate(0, -3), sort_of(-29), content_of(-29), sort_of(6), content_of(6), is_word(13), is_word(25)]
+[71, -29, 0, -3, 5, 3, True, False]
+>>> [header_of(0, 0, 2), read_header(header_of(4, 3, 1)), with_object((0,) * 4, 1, 0, 0, (11, 21))]
+[21, (4, 3, 1), (0, 21, 11, 21)]
+>>> heap = (21, 11, 21, 21, 0, 0) + (0,) * 6
+>>> [object_at(heap, 3), reached(heap, (6,)), reached_words(heap, (0, 13)), size_at(heap, 0)]
+[(0, 0, (0, 0)), (0, 3), 3, 3]
+>>> collected(heap, 6, 0, (6, 5, 6))
+((0, 0, 0, 0, 0, 0, 21, 18, 18, 21, 11, 21), 12, (12, 5, 12))
+>>> rows = (("closure", 0, 0), ("push",), ("give", 51), ("tail",), ("local", 0), ("back",))
+>>> code = (rows, ((4, None, ()),), (), (), (None,) * 6)
+>>> [is_code(code), is_row(("tuple", 1)), is_code((rows[:4], ((4, None, ()),), (), (), (None,) * 4))]
+[True, False, False]
+>>> machine = Machine(code, 1, ())
+>>> [machine.run(4), machine.shown()["pile"], machine.shown()["own"], machine.shown()["heap"], roots(machine), machine.run(9)]
+[4, (51,), 0, (9, 0), (51, 0, 51), 2]
+>>> [machine.shown()["word"], machine.shown()["hand"], end_of(code, 0, (True,), 9)[0], end_of(code, 1, (True,), 3)[::2]]
+['ended', 51, 'room', ('going', 3)]
+"""
+
+BEHIND_58 = r"""
+>>> from kindsworn.compiler import code_of, depths_of, greatest_depth, laid
+>>> from kindsworn.machine import Machine, end_of
+>>> from kindsworn.scopes import captures_of, scope_within, wheres_of
+>>> n, x, five = ("name", "n"), ("name", "x"), ("num", 5)
+>>> same = ("fn", "x", x)
+>>> code = code_of(((), ("call", same, five)))
+>>> code[0]
+(('closure', 0, 0), ('push',), ('give', 51), ('tail',), ('local', 0), ('back',))
+>>> [code[1] == ((4, ("closure", same), ()),), code[4][0][0][0], code[4][1], code[4][3], code[4][4]]
+[True, 'do', (('give',), (('argument', ('num', 5), ()),)), (('give',), (('apply', ('slot', 0)),)), (('do', ('name', 'x'), (('x', ('local', 0)),)), ())]
+>>> down = ("call", ("name", "f"), ("op", "-", n, ("num", 1)))
+>>> group = (("f", ("fn", "n", ("if", ("op", "=", n, ("num", 0)), n, down))),)
+>>> loop = laid((), ("rec", group, ("call", ("name", "f"), ("num", 3))))
+>>> loop[0][:6]
+(('closure', 0, 0), ('push',), ('local', 0), ('push',), ('give', 31), ('tail',))
+>>> loop[0][6:13]
+(('local', 0), ('push',), ('give', 1), ('op', '='), ('unless', 13), ('local', 0), ('back',))
+>>> loop[0][13:]
+(('own',), ('push',), ('local', 0), ('push',), ('give', 11), ('op', '-'), ('tail',))
+>>> [end_of(loop, 1, (True, False), 1000)[::2], depths_of(loop)[10:17], greatest_depth(loop)]
+[('ended', 49), [1, 1, 1, 1, 1, 2, 2], 3]
+>>> [captures_of(("loop", group, 0)), scope_within(loop[1], 0), wheres_of({"n": ("local", 0), "f": ("own",)}, ("f",))]
+[(), {'f': ('own',), 'n': ('local', 0)}, (('f', ('own',)),)]
+"""
+
+BEHIND_62 = r"""
+>>> from kindsworn.readback import state_of, value_of
+>>> from kindsworn.sidebyside import alike_by_plans, are_marks, ends_alike, marks_of, silent_rows, strides
+>>> term = ("let", "p", ("tuple", (("num", 1), ("num", 2))), ("match", ("name", "p"), ((("tuple", (("bind", "a"), ("any",))), ("name", "a")),)))
+>>> program = ((), term)
+>>> marks = marks_of(program, 50, (True,), 100)
+>>> [marks[0], marks[-1], are_marks(program, 50, (True,), marks), are_marks(program, 50, (True,), [1] + marks[1:])]
+[0, 11, True, False]
+>>> [ends_alike(program, 50, (False,), 100), ends_alike(program, 2, (False,), 100)[0], ends_alike(program, 50, (), 2)[0]]
+[('ended', ('num', 1), ()), 'room', 'going']
+>>> [alike_by_plans(program, 50, [(True,), (False, True), ()], 100), silent_rows([0, 0, 0, 2, 2, 5]), strides([0, 0, 0, 2, 2, 5])]
+[True, 2, 3]
+"""
+
+BEHIND_66 = r"""
+>>> from kindsworn.bench import Bench, run_at, scheme_at, verdict
+>>> from kindsworn.errors import Broken
+>>> from kindsworn.rooms import calls_open, greatest_pile, least_room, needs_of, piles_of, room_lacks
+>>> rows = (("closure", 0, 0), ("push",), ("give", 51), ("tail",), ("local", 0), ("back",))
+>>> code = (rows, ((4, None, ()),), (), (), (None,) * 6)
+>>> [needs_of(code, 9), least_room(code, 9), room_lacks(code, 0, 9), room_lacks(code, 1, 9), piles_of(code, 9), greatest_pile(code, 9), calls_open(code, 4)]
+[[(0, 1)], 1, 0, None, [0, 0, 1, 1, 1, 1, 1], 1, [1, 1, 1, 1, 1]]
+>>> bench = Bench()
+>>> [bench.put("module M let id = fn x -> x give id"), bench.put("module Main use M let main = M.id (M.id 5)")]
+[None, None]
+>>> [verdict(bench, "Main"), scheme_at(bench, "M.id"), scheme_at(bench, "M.no"), verdict(bench, "M")]
+[('taken', (0, ('num',))), (1, ('to', ('var', 0), ('var', 0))), None, ('joining', 'NoName', ('M', 'main'))]
+>>> [bench.swear("M.id", (0, ("to", ("num",), ("num",)))), bench.swear("M.id", (1, ("to", ("var", 0), ("var", 0))))]
+[None, None]
+>>> try:
+...     bench.put("module M let id = fn x -> x + 1 give id")
+... except Broken as error:
+...     print(error.index)
+1
+>>> [bench.texts()["M"], bench.free(1), bench.put("module Main use M let main = M.id 1 + M.id true")]
+['module M\nlet id = fn x -> x\ngive id', None, None]
+>>> verdict(bench, "Main")[1][:4]
+(('M', 0, ()), ('M', 0, (0,)), ('M', 0, (0, 0)), ('Main', 0, (0,)))
+>>> [bench.undo(), run_at(bench, "Main", 50, (True,), 100), bench.oaths() == [("M.id", (0, ("to", ("num",), ("num",))))], bench == bench.twin()]
+[None, ('ended', ('num', 5), ()), True, True]
+"""
+
 
 
 class ExamplesTest(unittest.TestCase):
@@ -270,7 +360,19 @@ class ExamplesTest(unittest.TestCase):
         self.holds(BEHIND_41)
 
     def test_behind_47(self):
-        self.holds(BEHIND_47_OF_STEPS)
+        self.holds(BEHIND_47)
+
+    def test_behind_53(self):
+        self.holds(BEHIND_53)
+
+    def test_behind_58(self):
+        self.holds(BEHIND_58)
+
+    def test_behind_62(self):
+        self.holds(BEHIND_62)
+
+    def test_behind_66(self):
+        self.holds(BEHIND_66)
 
 
 if __name__ == "__main__":

@@ -38,6 +38,27 @@ INTERFACE = {
     "taking": "first_unwhole(program) needless_rows(program) is_taken(program) taken(program)",
     "values": "is_value(thing) is_env(thing) narrowed(env,names) widened(env,more) cells_in(value) show_value(value)",
     "steps": "first_state(term) next_state(state)",
+    "runs": """states_of(term,most) run_of(term,most) reached_cells(state) trimmed(state) deepest(states)
+        is_of_kind(declarations,kind,thing)""",
+    "words": "immediate(sort,content) sort_of(word) content_of(word) is_word(thing) is_row(thing) is_code(thing)",
+    "heap": """header_of(sort,extra,many) size_at(heap,address) read_header(word) object_at(heap,address)
+        with_object(heap,address,sort,extra,fields)""",
+    "collector": "reached(heap,roots) collected(heap,room,half,roots) reached_words(heap,roots)",
+    "machine": "roots(machine) end_of(code,room,plan,most)",
+    "scopes": "captures_of(sort) wheres_of(scope,names) scope_within(functions,f)",
+    "compiler": "code_of(program) laid(declarations,term) depths_of(code) greatest_depth(code)",
+    "readback": """value_of(machine,word) word_at(machine,base,own,where) env_of(machine,base,own,wheres) activations(machine)
+        state_of(machine)""",
+    "sidebyside": """marks_of(program,room,plan,most) are_marks(program,room,plan,thing) alike_by_plans(program,room,plans,most)
+        silent_rows(marks) strides(marks) ends_alike(program,room,plan,most)""",
+    "rooms": """needs_of(code,most) piles_of(code,most) calls_open(code,most) least_room(code,most) greatest_pile(code,most)
+        room_lacks(code,room,most)""",
+    "bench": "verdict(bench,name) scheme_at(bench,name) run_at(bench,name,room,plan,most)",
+}
+CLASSES = {
+    ("machine", "Machine"): "__init__(self,code,room,plan) step(self) run(self,most) shown(self) code(self) room(self) plan(self) twin(self)",
+    ("bench", "Bench"): """__init__(self) put(self,text) take(self,name) swear(self,name,scheme) free(self,index) undo(self) texts(self)
+        oaths(self) twin(self) __eq__(self,other)""",
 }
 
 
@@ -51,6 +72,15 @@ class InterfaceTest(unittest.TestCase):
             for one in told.split():
                 called, arguments = one[:-1].split("(")
                 self.assertEqual(defined.get(called), arguments.split(","), f"{name}.{called}")
+
+    def test_classes(self):
+        for (name, called), told in CLASSES.items():
+            found = [node for node in TREES[f"{name}.py"].body if isinstance(node, ast.ClassDef) and node.name == called]
+            self.assertEqual(len(found), 1)
+            methods = {node.name: [arg.arg for arg in node.args.args] for node in found[0].body if isinstance(node, ast.FunctionDef)}
+            for one in told.split():
+                method, arguments = one[:-1].split("(")
+                self.assertEqual(methods.get(method), arguments.split(","), f"{called}.{method}")
 
 
 if __name__ == "__main__":

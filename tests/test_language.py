@@ -74,7 +74,7 @@ class LanguageTest(unittest.TestCase):
     def test_nothing_that_is_not_allowed(self):
         barred = (
             ast.GeneratorExp, ast.Yield, ast.YieldFrom, ast.AsyncFunctionDef, ast.Await, ast.Global, ast.Nonlocal,
-            ast.Div, ast.MatMult, ast.Import, ast.With, ast.Try, ast.Match, ast.NamedExpr, ast.AnnAssign, ast.Assert,
+            ast.Div, ast.MatMult, ast.Import, ast.With, ast.Match, ast.NamedExpr, ast.AnnAssign, ast.Assert,
         )
         for name, tree in TREES.items():
             for node in ast.walk(tree):
@@ -145,16 +145,47 @@ class LanguageTest(unittest.TestCase):
                 if isinstance(node, ast.FunctionDef):
                     for one, row in bound_names(ast.Module(body=[node.args] + node.body, type_ignores=[])):
                         self.assertNotIn(one, imported | classes | top, f"{name}:{row}")
+            handlers = {node.name for node in ast.walk(tree) if isinstance(node, ast.ExceptHandler)}
             for one, row in bound_names(tree):
                 method = one.startswith("__") and one.endswith("__")
                 self.assertTrue(method or re.fullmatch(r"_|_?[A-Za-z][A-Za-z0-9_]*", one), f"{name}:{row} {one}")
                 self.assertTrue(method or one == "_" or not hasattr(builtins, one), f"{name}:{row} {one}")
                 self.assertNotIn(one, BARRED_NAMES, f"{name}:{row}")
-            known = imported | classes | top | {one for one, _ in bound_names(tree)} | ALLOWED_BUILTINS
+            known = imported | classes | top | {one for one, _ in bound_names(tree)} | handlers | ALLOWED_BUILTINS
             for node in ast.walk(tree):
                 if isinstance(node, ast.Name) and isinstance(node.ctx, ast.Load):
                     self.assertIn(node.id, known, f"{name}:{node.lineno}")
                     self.assertNotEqual(node.id, "_")
+
+    def test_handlers(self):
+        """Only errors of the package are caught, each by its name, and a name for one means nothing else there."""
+        errors = {node.name for node in TREES["errors.py"].body if isinstance(node, ast.ClassDef)}
+        for name, tree in TREES.items():
+            for function in ast.walk(tree):
+                if not isinstance(function, ast.FunctionDef):
+                    continue
+                named = []
+                for node in ast.walk(function):
+                    if isinstance(node, ast.Try):
+                        self.assertEqual([node.orelse, node.finalbody], [[], []])
+                    if isinstance(node, ast.ExceptHandler):
+                        self.assertIsInstance(node.type, ast.Name)
+                        self.assertIn(node.type.id, errors - {"SwornError"}, f"{name}:{node.lineno}")
+                        named.extend([] if node.name is None else [node.name])
+                self.assertEqual(len(named), len(set(named)), name)
+                others = {one for one, _ in bound_names(function)}
+                self.assertEqual(others & set(named), set(), name)
+
+    def test_one_eq(self):
+        """__eq__ asks first whether the other object is of its class; no other double-underscore method is there."""
+        for name, tree in TREES.items():
+            for node in ast.walk(tree):
+                if isinstance(node, ast.ClassDef):
+                    for one in node.body:
+                        if isinstance(one, ast.FunctionDef) and one.name.startswith("__"):
+                            self.assertIn(one.name, ("__init__", "__eq__"))
+                            if one.name == "__eq__":
+                                self.assertTrue(ast.unparse(one.body[0]).startswith(f"return isinstance(other, {node.name}) and "), name)
 
     def test_methods_and_attributes(self):
         own = set()
@@ -167,7 +198,7 @@ class LanguageTest(unittest.TestCase):
                     attributes.add(node.attr)
         self.assertEqual(own & attributes, set())
         builtin = set(dir(str)) | set(dir(int)) | set(dir(list)) | set(dir(dict)) | set(dir(set)) | set(dir(bytes))
-        self.assertEqual((own - {"__init__"}) & builtin, set())
+        self.assertEqual((own - {"__init__", "__eq__"}) & builtin, set())
         self.assertLessEqual(attributes & builtin, {"index", "count"})
         for name, tree in TREES.items():
             calls = {id(node.func) for node in ast.walk(tree) if isinstance(node, ast.Call)}

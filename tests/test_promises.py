@@ -3,7 +3,7 @@
 import unittest
 
 from kindsworn import (
-    checker, derivations, errors, kinds, lots, missing, patterns, schemes, steps, taking, unify, values)
+    bench, checker, collector, compiler, derivations, errors, heap, kinds, lots, machine, missing, patterns, readback, rooms, runs, schemes, scopes, sidebyside, steps, taking, unify, values, words)
 from kindsworn.reader import read_kind, read_pattern, read_program, read_term
 from kindsworn.trees import places_of
 from tests.anything import frozen
@@ -17,6 +17,37 @@ ENV = (("a", ("num", 1)), ("b", ("cell", 4)))
 PAIRS = [(read_kind("{a: num | ?0}"), read_kind("{b: ?2 | ?1}")), (("var", 2), TRUTH)]
 DERIVED = checker.derivation_of(FINE, places_of(FINE[1]))
 STATE = (("give", ("num", 3)), (("new",),), ((0, TRUTH),), (1,))
+CODE = compiler.code_of(FINE)
+GROUP = ("loop", (("f", read_term("fn x -> g y")), ("g", read_term("fn z -> f x"))), 1)
+
+
+def a_machine(rows):
+    made = machine.Machine(CODE, 100, (True, False))
+    made.run(rows)
+    return made
+
+
+def a_bench():
+    made = bench.Bench()
+    made.put("module L let id = fn x -> x give id module M use L let main = L.id 5 module N let main = 1 1")
+    made.swear("L.id", (0, ("to", NUM, NUM)))
+    return made
+
+
+def of_machine(call):
+    """A call of a machine that has done so many rows."""
+    def told(rows, *arguments):
+        return call(a_machine(rows), *arguments)
+    return told
+
+
+def of_bench(call):
+    """A call of a bench."""
+    def told(*arguments):
+        return call(a_bench(), *arguments)
+    return told
+
+
 CALLS = [
     (kinds.put_after, {0: ("cell", ("var", 1))}, {1: NUM}), (unify.unify, PAIRS), (unify.unify, [(NUM, TRUTH)]), (unify.is_unifier, PAIRS, {2: TRUTH}), (unify.first_clash, PAIRS + [(NUM, TRUTH)]),
     (schemes.scheme_of, read_kind("?4 -> {a: ?4 | ?2}")), (schemes.instance_by, (1, ("to", ("var", 0), NUM)), ("to", TRUTH, NUM)), (schemes.matched, read_kind("?0 -> ?1"), read_kind("num -> ?1"), (0,)),
@@ -29,7 +60,13 @@ CALLS = [
     (patterns.meet, ROWS[0], ROWS[1]), (patterns.lies_in, ROWS[1], ROWS[0]), (missing.missing, OPT, read_kind("Opt ?0"), ROWS[:1]), (missing.is_missing, OPT, read_kind("Opt ?0"), ROWS[:1], ROWS[2]), (missing.needless, OPT, read_kind("Opt (num, num)"), ROWS),
     (missing.left_to, OPT, read_kind("Opt (num, num)"), ROWS, 2), (missing.is_left_to, OPT, read_kind("Opt (num, num)"), ROWS, 2, ROWS[2]), (missing.is_plain, OPT, read_kind("Opt num")), (missing.some_value, OPT, read_kind("Opt num"), ROWS[0]),
     (taking.first_unwhole, FINE), (taking.needless_rows, FINE), (taking.is_taken, FINE), (taking.taken, FINE), (values.is_value, ("cell", 1)), (values.is_env, ENV), (values.narrowed, ENV, ("a",)), (values.widened, ENV, {"a": TRUTH}),
-    (values.cells_in, ("cell", 3)), (values.show_value, ("cell", 3)), (steps.first_state, read_term("1 + 2")), (steps.next_state, STATE), (steps.next_state, steps.first_state(read_term("(1, 2)")))]
+    (values.cells_in, ("cell", 3)), (values.show_value, ("cell", 3)), (steps.first_state, read_term("1 + 2")), (steps.next_state, STATE), (steps.next_state, steps.first_state(read_term("(1, 2)"))),
+    (runs.states_of, FINE[1], 9), (runs.run_of, FINE[1], 9), (runs.reached_cells, STATE), (runs.trimmed, STATE), (runs.deepest, [STATE]), (runs.is_of_kind, OPT, read_kind("Opt num"), ("make", "No", None)), (words.immediate, 0, 7), (words.is_word, 7), (words.is_row, ("give", 7)), (words.is_code, CODE),
+    (heap.header_of, 1, 2, 3), (heap.read_header, 77), (heap.object_at, (0, 21, 1, 11), 1), (heap.size_at, (0, 21, 1, 11), 1), (heap.with_object, (0,) * 4, 1, 0, 0, (1, 11)), (collector.reached, (21, 1, 0, 0, 0, 0), (0,)), (collector.reached_words, (21, 1, 0, 0, 0, 0), (0,)), (collector.collected, (21, 1, 0, 0, 0, 0), 3, 0, (0, 5)),
+    (of_machine(machine.Machine.shown), 9), (of_machine(machine.Machine.code), 9), (of_machine(machine.Machine.plan), 9), (of_machine(machine.Machine.run), 9, 4), (of_machine(machine.roots), 9), (scopes.captures_of, GROUP), (scopes.wheres_of, {"z": ("own",), "a": ("local", 1)}, ("z", "a")), (scopes.scope_within, ((0, GROUP[:2] + (0,), ("x", "y")), (0, GROUP, ("x", "y"))), 1),
+    (compiler.code_of, FINE), (compiler.laid, OPT, FINE[1]), (compiler.depths_of, CODE), (compiler.greatest_depth, CODE), (of_machine(readback.value_of), 9, 13), (of_machine(readback.word_at), 2, 0, 5, ("local", 0)), (of_machine(readback.env_of), 2, 0, 5, (("i", ("local", 0)),)), (of_machine(readback.activations), 9), (of_machine(readback.state_of), 9),
+    (sidebyside.marks_of, FINE, 100, (True,), 30), (sidebyside.are_marks, FINE, 100, (True,), [0, 1]), (sidebyside.silent_rows, [0, 0, 2]), (sidebyside.strides, [0, 0, 2]), (sidebyside.ends_alike, FINE, 100, (), 99), (sidebyside.alike_by_plans, FINE, 100, [(), (True,)], 99), (rooms.needs_of, CODE, 99), (rooms.least_room, CODE, 99), (rooms.room_lacks, CODE, 2, 99),
+    (rooms.piles_of, CODE, 99), (rooms.greatest_pile, CODE, 99), (rooms.calls_open, CODE, 99), (of_bench(bench.Bench.texts),), (of_bench(bench.Bench.oaths),), (of_bench(bench.verdict), "M"), (of_bench(bench.verdict), "N"), (of_bench(bench.verdict), "L"), (of_bench(bench.scheme_at), "L.id"), (of_bench(bench.run_at), "M", 50, (True,), 90)]
 
 
 def spoil(thing):
@@ -61,11 +98,11 @@ class PromisesTest(unittest.TestCase):
                     self.assertEqual(list(one), sorted(one), call)
                     todo.extend(one.values())
                 elif isinstance(one, (list, tuple)):
-                    todo.extend(one)
+                    todo.extend(list(one)[:200])
 
     def test_truths(self):
         for call, *arguments in CALLS:
-            if call.__name__.startswith(("is_", "are_", "has_", "mends", "lies_in")):
+            if call.__name__.startswith(("is_", "are_", "alike_", "has_", "mends", "lies_in")):
                 self.assertIsInstance(call(*arguments), bool, call)
 
     def test_errors(self):
