@@ -242,11 +242,11 @@ def lay_pattern(layer, pattern, spot, waiting):
         elif one[0] == "bind":
             binds.append(ahead + (PUSH,))
     lacking = []
-    for rows in tests:
-        lacking.append([layer.emit(row, doing, waiting) for row in rows][-1])
-    for rows in binds:
-        for row in rows:
-            layer.emit(row, doing, waiting)
+    for steps in tests + binds:
+        for step in steps:
+            layer.emit(step, doing, waiting)
+        if steps[-1] != PUSH:
+            lacking.append(len(layer.rows) - 1)
     return lacking
 
 

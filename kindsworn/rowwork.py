@@ -273,9 +273,9 @@ DOES = {
 
 
 def row_next(engine):
-    """The row at the engine's place, None if there is none, or if it does not go on."""
+    """The row at the engine's place, None if there is none."""
     rows = engine.code_given[0]
-    return rows[engine.place] if engine.word == "going" and engine.place < len(rows) else None
+    return rows[engine.place] if engine.place < len(rows) else None
 
 
 def advance(engine):

@@ -104,6 +104,18 @@ class MarksTest(unittest.TestCase):
             shorter = marks[:at] + marks[at + 1:]
             self.assertIs(are_marks(one, 9, (), shorter), shorter == marks[:-1])
 
+    def test_where_there_are_none(self):
+        """What is not taken may go on where the meaning is stuck."""
+        one = program("match (1, 2, 3) with | (a, b) -> a + b end")
+        whole = [marks_of(one, 90, (), most) for most in range(30)]
+        least = whole.index(None)
+        self.assertEqual(whole[least:], [None] * (30 - least))
+        marks = whole[least - 1]
+        self.assertEqual([whole[most] for most in range(least)], [marks[:most + 1] for most in range(least)])
+        self.assertIs(are_marks(one, 90, (), marks), True)
+        for more in (marks[-1], marks[-1] + 1, None):
+            self.assertIs(are_marks(one, 90, (), marks + [more]), False)
+
     def test_truths_are_no_marks(self):
         one = program("1")
         marks = marks_of(one, 9, (), 100)
