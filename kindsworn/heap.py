@@ -5,6 +5,7 @@ A_RECORD = 1
 A_MAKE = 2
 A_CELL = 3
 A_CLOSURE = 4
+MOST_FIELDS = 255
 
 
 def header_of(sort, extra, many):

@@ -1,8 +1,8 @@
 """How much room a run needs, and how much its pile takes."""
 
 from kindsworn.engine import Engine
+from kindsworn.heap import MOST_FIELDS
 from kindsworn.rowwork import advance, row_next
-from kindsworn.words import MOST_FIELDS
 
 
 def needs_of(code, most):

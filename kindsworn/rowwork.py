@@ -6,6 +6,8 @@ from kindsworn.words import A_MAKER, A_NUMBER, A_PLACE, A_TRUTH, UNIT, content_o
 
 # What stands below does a row, and tells the place behind it. It tells None if the row wants what is not so, or room
 # is out, and changes nothing then, but for a collection.
+# That no object has more than 255 fields is not asked of a code. The header of one that had more would tell another
+# extra, so a row also asks whether the code has such labels, or such a function.
 
 
 def do_give(engine, row):
@@ -127,7 +129,8 @@ def do_item(engine, row):
 def do_label(engine, row):
     """A field of a record comes into the hand."""
     sort, extra, _ = engine.object_of(engine.hand)
-    labels = engine.code_given[2][extra] if sort == A_RECORD else ()
+    known = engine.code_given[2]
+    labels = known[extra] if sort == A_RECORD and extra < len(known) else ()
     if row[1] not in labels:
         return None
     return do_field(engine, engine.hand, A_RECORD, labels.index(row[1]))
@@ -194,7 +197,7 @@ def function_called(engine):
     if engine.own_words() == 0:
         return None
     sort, extra, _ = engine.object_of(engine.pile[-1])
-    return extra if sort == A_CLOSURE else None
+    return extra if sort == A_CLOSURE and extra < len(engine.code_given[1]) else None
 
 
 def do_call(engine, _):

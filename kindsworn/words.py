@@ -10,7 +10,6 @@ A_MAKER = 3
 A_PLACE = 4
 AN_ADDRESS = 5
 UNIT = 5
-MOST_FIELDS = 255
 
 
 def immediate(sort, content):
@@ -131,13 +130,6 @@ def is_function(thing, many):
     return is_index(thing[0]) and thing[0] < many and are_ascending(thing[2], is_name)
 
 
-def fields_made(row, functions):
-    """How many fields the object has that a row makes, if more than one."""
-    if row[0] == "sibling":
-        return len(functions[row[1]][2])
-    return row[-1] if row[0] in ("closure", "tuple", "record") else 0
-
-
 def row_fits(row, code):
     """Whether all that is told in a ROW is there in a code that is CODE but for its rows."""
     rows, functions, labels, makers, _ = code
@@ -149,9 +141,7 @@ def row_fits(row, code):
             return False
     if row[0] == "closure" and row[2] != len(functions[row[1]][2]):
         return False
-    if row[0] == "record" and row[2] != len(labels[row[1]]):
-        return False
-    return fields_made(row, functions) <= MOST_FIELDS
+    return row[0] != "record" or row[2] == len(labels[row[1]])
 
 
 def is_code(thing):

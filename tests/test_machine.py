@@ -127,6 +127,36 @@ class RowsTest(unittest.TestCase):
         self.assertEqual(machine.run(len(rows) + 1), len(rows) + 1)
         self.assertEqual(object_at(machine.shown()["heap"], 0), (0, 0, (num(9),) * 255))
 
+    def test_many_fields_wanted(self):
+        """However many fields a row tells, it wants as many own words, and there has to be room."""
+        for many in (256, 300, 65536, 10 ** 12 + 3, 10 ** 39):
+            self.stuck((), ("tuple", many))
+            self.stuck(PAIR + (("push",),), ("tuple", many))
+        for many in (256, 300):
+            names = tuple(f"a{at:03}" for at in range(many))
+            for row in (("tuple", many), ("record", 0, many), ("closure", 0, many)):
+                rows = (("push",),) * many + (row,)
+                one = (rows, ((0, None, names),), (names,), (), (None,) * (many + 1))
+                less = (rows[1:], ((0, None, names),), (names,), (), (None,) * many)
+                for plan in ((), (True,)):
+                    word, machine, done = end_of(one, many, plan, many + 9)
+                    self.assertEqual([word, done, machine.shown()["pile"], machine.shown()["made"]], ["room", many, (UNIT,) * many, 0])
+                    word, machine, done = end_of(less, many + 9, plan, many + 9)
+                    self.assertEqual([word, done, machine.shown()["pile"], machine.shown()["free"]], ["stuck", many - 1, (UNIT,) * (many - 1), 0])
+
+    def test_more_fields_than_there_may_be(self):
+        """No object has so many, but a code that would make one raises nothing."""
+        for many in (256, 300, 520):
+            names = tuple(f"a{at:03}" for at in range(many))
+            ahead = (("push",),) * many
+            for behind in (
+                    (("tuple", many), ("item", 255)), (("record", 0, many), ("label", "a000")), (("closure", 0, many), ("push",), ("call",)),
+                    (("closure", 0, many), ("push",), ("tail",))):
+                for plan in ((), (True,)):
+                    rows = ahead + behind
+                    one = (rows, ((len(rows) - 1, None, names),), (names,), (), (None,) * len(rows))
+                    self.assertEqual(end_of(one, 600, plan, len(rows) + 9)[::2], ("stuck", len(rows) - 1))
+
     def test_makes_of_the_hand(self):
         for name, rows in THINGS.items():
             self.put(rows, ("make", 2), 2, 2, (self.hand_of(name),))

@@ -116,15 +116,21 @@ class CodeTest(unittest.TestCase):
                 (("go", many - 1), True), (("go", many), False), (("unless", many - 1), True), (("unless", many), False), (("notnum", 0, many - 1), True), (("notnum", 0, many), False), (("nottruth", True, many - 1), True), (("nottruth", True, many), False),
                 (("notmaker", 1, many - 1), True), (("notmaker", 1, many), False), (("notmaker", 2, 0), False), (("make", 1), True), (("make", 2), False), (("give", 17), True), (("give", 27), False), (("closure", 1, 2), True), (("closure", 2, 1), True), (("closure", 3, 0), False),
                 (("closure", 1, 1), False), (("closure", 1, 3), False), (("closure", 0, 1), False), (("sibling", 2), True), (("sibling", 3), False), (("record", 1, 2), True), (("record", 2, 2), False), (("record", 1, 1), False), (("record", 0, 2), False), (("tuple", 255), True),
-                (("tuple", 256), False), (("local", 10 ** 9), True), (("item", 10 ** 9), True), (("captured", 256), True), (("drop", 256), True), (("give", 1000001), True), (("label", "zz"), True)]:
+                (("tuple", 256), True), (("tuple", 10 ** 39), True), (("tuple", 1), False), (("local", 10 ** 9), True), (("item", 10 ** 9), True), (("captured", 256), True), (("drop", 256), True), (("give", 1000001), True), (("label", "zz"), True)]:
             self.told(self.with_row(row), wanted)
 
-    def test_fields(self):
-        for many, wanted in [(255, True), (256, False)]:
-            rows = (("none",), ("closure", 0, many))
-            self.told(code(rows, ((0, None, names(many)),)), wanted)
-            self.told(code((("none",), ("record", 0, many)), (), (names(many),)), wanted)
-            self.told(code((("none",), ("tuple", many)), ()), wanted)
+    def test_any_number_of_fields(self):
+        """How many fields there would be is not asked, just whether as many are told as there are names or labels."""
+        for many in (2, 254, 255, 256, 257, 300, 1000):
+            self.told(code((("none",), ("tuple", many)), ()), True)
+            functions = ((0, None, names(many)),)
+            self.told(code((("none",), ("closure", 0, many), ("sibling", 0)), functions), True)
+            self.told(code((("none",), ("record", 0, many)), (), (names(many),)), True)
+            for other in (many - 1, many + 1, many - 256, many + 256):
+                self.told(code((("none",), ("closure", 0, other)), functions), False)
+                self.told(code((("none",), ("record", 0, other)), (), (names(many),)), False)
+        for many in (1, 0, -1, -300, True, None, "300", (300,), 300.0):
+            self.told(code((("none",), ("tuple", many)), ()), False)
 
     def test_functions(self):
         for function, wanted in [
